@@ -1,0 +1,50 @@
+"""The errors that are told for arguments of many functions."""
+
+from formstead.errors import InvalidNumber, InvalidParts, InvalidPlace, InvalidTerm, InvalidWays
+from formstead.kinds import is_count, is_tuple_up_to
+from formstead.patterns import fits
+from formstead.places import is_place
+
+MAX_PUT_IN = 8
+
+
+def check_term(words, term):
+    """Refuses what is no term."""
+    if not fits(words, term, False):
+        raise InvalidTerm(term)
+
+
+def check_pattern(words, pattern):
+    """Refuses what is no pattern."""
+    if not fits(words, pattern, True):
+        raise InvalidTerm(pattern)
+
+
+def check_place(pattern, place):
+    """Refuses what is no place in the pattern."""
+    if not is_place(pattern, place):
+        raise InvalidPlace(place)
+
+
+def check_ways(ways):
+    """Refuses what are no ways to lead by."""
+    if not is_tuple_up_to(ways, MAX_PUT_IN):
+        raise InvalidWays(None)
+    for index, way in enumerate(ways):
+        if not is_count(way):
+            raise InvalidWays(index)
+
+
+def check_by(by):
+    """Refuses what is no whole number from 0 on."""
+    if not is_count(by):
+        raise InvalidNumber(by)
+
+
+def check_parts(words, parts):
+    """Refuses what are no terms to be put in."""
+    if not is_tuple_up_to(parts, MAX_PUT_IN):
+        raise InvalidParts(None)
+    for index, part in enumerate(parts):
+        if not fits(words, part, False):
+            raise InvalidParts(index)

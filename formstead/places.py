@@ -1,0 +1,49 @@
+"""Places in patterns, and what stands there."""
+
+from formstead.kinds import is_whole_within
+from formstead.patterns import depth_in, is_leaf, length_in
+
+
+def is_place(pattern, place):
+    """Whether a value is a place in a pattern."""
+    if not isinstance(place, tuple):
+        return False
+    here = pattern
+    for index in place:
+        if is_leaf(here) or not is_whole_within(index, 0, len(here) - 2):
+            return False
+        here = here[1 + index]
+    return True
+
+
+def part_there(pattern, place):
+    """What stands at a place."""
+    here = pattern
+    for index in place:
+        here = here[1 + index]
+    return here
+
+
+def with_part(pattern, place, part):
+    """The pattern with a part at a place."""
+    if not place:
+        return part
+    at = 1 + place[0]
+    return pattern[:at] + (with_part(pattern[at], place[1:], part),) + pattern[at + 1:]
+
+
+def length_with_part(words, pattern, place, part):
+    """The length that the pattern has with a part at a place."""
+    gone = length_in(words, part_there(pattern, place))
+    return length_in(words, pattern) - gone + length_in(words, part)
+
+
+def depth_with_part(words, pattern, place, part):
+    """The depth that the pattern has with a part at a place."""
+    deepest = len(place) + depth_in(words, part)
+    here = pattern
+    for above, index in enumerate(place):
+        others = here[1:1 + index] + here[2 + index:]
+        deepest = max([deepest] + [above + 1 + depth_in(words, other) for other in others])
+        here = here[1 + index]
+    return deepest

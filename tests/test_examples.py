@@ -1,0 +1,82 @@
+"""Every example of the interface, word for word, and the interface's names and arguments."""
+
+import importlib
+import inspect
+import os
+import unittest
+
+HERE = os.path.dirname(os.path.abspath(__file__))
+
+SIGNATURES = {
+    "terms": {
+        "is_term": "(book, value)",
+        "is_pattern": "(book, value)",
+        "is_source": "(book, value)",
+        "names_of": "(book, word)",
+        "length_of": "(book, pattern)",
+        "depth_of": "(book, pattern)",
+        "free_names": "(book, pattern)",
+        "boxes_in": "(book, pattern)",
+        "led": "(book, pattern, ways, by)",
+        "put_in": "(book, term, parts)",
+        "part_at": "(book, pattern, place)",
+        "replaced": "(book, pattern, place, part)",
+    },
+    "texts": {
+        "read_source": "(book, text)",
+        "print_source": "(book, source, *, names=None)",
+        "are_alike": "(book, text, other)",
+    },
+}
+
+
+def examples(text):
+    """The examples of a session as pairs of what is typed and of what is told."""
+    found = []
+    for line in text.rstrip("\n").split("\n"):
+        if line.startswith(">>> "):
+            found.append([line[4:], []])
+        else:
+            found[-1][1].append(line)
+    return [(typed, "\n".join(told)) for typed, told in found]
+
+
+def told(typed, names):
+    """What a typed line tells, as the document writes it."""
+    try:
+        code = compile(typed, "<example>", "eval")
+    except SyntaxError:
+        exec(typed, names)
+        return ""
+    try:
+        value = eval(code, names)
+    except ValueError as error:
+        return f"raises {type(error).__name__}({', '.join([repr(held) for held in vars(error).values()])})"
+    return repr(value)
+
+
+class Examples(unittest.TestCase):
+    def test_examples_word_for_word(self):
+        names, many = {}, 0
+        for module in ("terms", "texts"):
+            with open(os.path.join(HERE, "examples", module + ".txt"), encoding="ascii") as held:
+                session = examples(held.read())
+            for typed, wanted in session:
+                with self.subTest(typed=typed):
+                    self.assertEqual(told(typed, names), wanted)
+                many += 1
+        self.assertEqual(many, 19)
+
+
+class Interface(unittest.TestCase):
+    def test_functions_are_defined_where_they_are_listed(self):
+        for module, functions in SIGNATURES.items():
+            found = importlib.import_module("formstead." + module)
+            for name, signature in functions.items():
+                with self.subTest(module=module, name=name):
+                    self.assertEqual(str(inspect.signature(getattr(found, name))), signature)
+                    self.assertEqual(getattr(found, name).__module__, "formstead." + module)
+
+
+if __name__ == "__main__":
+    unittest.main()
