@@ -1,7 +1,7 @@
 """Places in patterns, and what stands there."""
 
 from formstead.kinds import is_whole_within
-from formstead.patterns import depth_in, is_leaf, length_in
+from formstead.patterns import depth_in, is_leaf, is_too_great, length_in
 
 
 def is_place(pattern, place):
@@ -32,18 +32,9 @@ def with_part(pattern, place, part):
     return pattern[:at] + (with_part(pattern[at], place[1:], part),) + pattern[at + 1:]
 
 
-def length_with_part(words, pattern, place, part):
-    """The length that the pattern has with a part at a place."""
+def is_too_great_with_part(words, pattern, place, part):
+    """Whether the pattern would be too great with a part at a place."""
     gone = length_in(words, part_there(pattern, place))
-    return length_in(words, pattern) - gone + length_in(words, part)
-
-
-def depth_with_part(words, pattern, place, part):
-    """The depth that the pattern has with a part at a place."""
-    deepest = len(place) + depth_in(words, part)
-    here = pattern
-    for above, index in enumerate(place):
-        others = here[1:1 + index] + here[2 + index:]
-        deepest = max([deepest] + [above + 1 + depth_in(words, other) for other in others])
-        here = here[1 + index]
-    return deepest
+    length = length_in(words, pattern) - gone + length_in(words, part)
+    # What stands beside the part is no deeper than it was in the pattern, and so never too deep.
+    return is_too_great(length, len(place) + depth_in(words, part))

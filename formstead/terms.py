@@ -4,8 +4,8 @@ from formstead.arguments import check_by, check_parts, check_pattern, check_plac
 from formstead.errors import TooGreat
 from formstead.forms import words_of
 from formstead.leading import is_put_in_too_great, led_pattern, with_put_in
-from formstead.patterns import ats_in, depth_in, fits, free_in, is_too_great, length_in
-from formstead.places import depth_with_part, length_with_part, part_there, with_part
+from formstead.patterns import ats_in, depth_in, fits, free_in, length_in
+from formstead.places import is_too_great_with_part, part_there, with_part
 from formstead.sources import fits_source
 
 
@@ -91,7 +91,6 @@ def replaced(book, pattern, place, part):
     check_pattern(words, pattern)
     check_place(pattern, place)
     check_pattern(words, part)
-    length = length_with_part(words, pattern, place, part)
-    if is_too_great(length, depth_with_part(words, pattern, place, part)):
+    if is_too_great_with_part(words, pattern, place, part):
         raise TooGreat()
     return with_part(pattern, place, part)

@@ -1,13 +1,13 @@
 """The signs, the tokens and the runs of texts: the first two checks."""
 
 from formstead.errors import InvalidText
-from formstead.kinds import DIGITS, LETTERS, is_name
+from formstead.kinds import DIGITS, is_name
 
 MAX_SIGNS = 100000
 MAX_DIGITS = 9
 BLANKS = " \n"
 BRACKETS = "()"
-SIGNS = LETTERS + DIGITS + "-" + BRACKETS + BLANKS
+SIGNS = "abcdefghijklmnopqrstuvwxyz0123456789-() \n"
 
 
 def tokens_of(text):

@@ -95,6 +95,10 @@ class Books(unittest.TestCase):
         self.form_refused("new", (0, 0), template(1))
         self.form_refused("new", (0,), template(2))
 
+    def test_three_names_of_one_part(self):
+        self.form_taken("new", (2,), ("again", ("fn", ("hole", 0, 0, 1))))
+        self.form_refused("new", (3,), ("again", ("fn", ("hole", 0, 0, 1, 2))))
+
     def test_template_that_is_no_use(self):
         for template in (HOLE, ONE, ("name", 0), ("at", 0), ("hole", 0, 0)):
             self.form_refused("new", (0,), template)

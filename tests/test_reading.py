@@ -233,6 +233,11 @@ class ThirdCheck(Reading):
         self.wrong("(say " * 80 + "A", 400)
         self.wrong("(say " * 80 + "x 05", 402)
 
+    def test_sixty_and_sixty_one_brackets_behind_closed_ones(self):
+        self.reads("(pair (say 1) " + "(say " * 58 + "1" + ")" * 59, ("pair", ("say", ONE), deep_term(59)))
+        self.assertRaises(TooGreat, read_source, (), "(pair (say 1) " + "(say " * 59 + "1" + ")" * 60)
+        self.wrong("(pair (say 1) " + "(say " * 60 + "1" + ")" * 61, 14 + 295)
+
     def test_sixty_brackets_with_boxes(self):
         self.reads("(boxes a 1 " + "(say " * 59 + "1" + ")" * 60, deep_term(60), (ONE,))
         self.reads("(boxes a " + "(say " * 59 + "1" + ")" * 59 + " a)", ("at", 0), (deep_term(60),))
