@@ -1,9 +1,13 @@
 """The errors that are told for arguments of many functions."""
 
-from formstead.errors import InvalidNumber, InvalidParts, InvalidPlace, InvalidTerm, InvalidWays
-from formstead.kinds import is_count, is_tuple_up_to
+from formstead.errors import (
+    InvalidNumber, InvalidParts, InvalidPlace, InvalidProgram, InvalidSource, InvalidTerm, InvalidWays,
+)
+from formstead.kinds import is_count, is_tuple_up_to, is_whole_within
 from formstead.patterns import fits
 from formstead.places import is_place
+from formstead.sources import fits_source
+from formstead.values import fits_program
 
 MAX_PUT_IN = 8
 
@@ -18,6 +22,24 @@ def check_pattern(words, pattern):
     """Refuses what is no pattern."""
     if not fits(words, pattern, True):
         raise InvalidTerm(pattern)
+
+
+def check_source(words, source):
+    """Refuses what is no source."""
+    if not fits_source(words, source):
+        raise InvalidSource(source)
+
+
+def check_program(program):
+    """Refuses what is no program."""
+    if not fits_program(program):
+        raise InvalidProgram(program)
+
+
+def check_number(value, least, greatest):
+    """Refuses what is no whole number from one number up to another one."""
+    if not is_whole_within(value, least, greatest):
+        raise InvalidNumber(value)
 
 
 def check_place(pattern, place):

@@ -57,11 +57,24 @@ def with_put_in(words, term, parts):
 
 def is_put_in_too_great(words, term, parts):
     """Whether the term would be too great with the parts put in."""
+
+    def number_for(node, outward):
+        return part_for(node, outward, len(parts))
+
+    length, depth = sizes_with(words, term, parts, number_for)
+    return is_too_great(length, depth)
+
+
+def sizes_with(words, pattern, parts, number_for):
+    """The length and the depth of a pattern with parts in the place of nodes.
+
+    NUMBER_FOR tells of a node and of how many names are outward of it the number of the part, or None.
+    """
     lengths = [length_in(words, part) for part in parts]
     depths = [depth_in(words, part) for part in parts]
     length, deepest = 0, 0
-    for node, fresh, outward, depth in nodes(words, term):
-        number = part_for(node, outward, len(parts))
+    for node, fresh, outward, depth in nodes(words, pattern):
+        number = number_for(node, outward)
         length += fresh + (1 if number is None else lengths[number])
         deepest = max(deepest, depth if number is None else depth - 1 + depths[number])
-    return is_too_great(length, deepest)
+    return (length, deepest)

@@ -70,10 +70,13 @@ def items_of(rows):
 
 
 def leaf_of(scope, role, token):
-    """The leaf that a row stands for; None for what is none, and for a name that is not seen."""
+    """The leaf that a row stands for; None for what is none, and for a name that is not seen.
+
+    A name that is lent to a hole is told as the name that it means.
+    """
     if role == "number":
         return ("number", int(token))
-    return scope.meaning(token) if role == "named" else None
+    return scope.meaning(token) if role in ("named", "lent") else None
 
 
 def pass_by(scope, role, token):

@@ -34,7 +34,11 @@ def with_part(pattern, place, part):
 
 def is_too_great_with_part(words, pattern, place, part):
     """Whether the pattern would be too great with a part at a place."""
+    return is_too_great_with_sizes(words, pattern, place, length_in(words, part), depth_in(words, part))
+
+
+def is_too_great_with_sizes(words, pattern, place, length, depth):
+    """Whether the pattern would be too great with something of this length and this depth at a place."""
     gone = length_in(words, part_there(pattern, place))
-    length = length_in(words, pattern) - gone + length_in(words, part)
     # What stands beside the part is no deeper than it was in the pattern, and so never too deep.
-    return is_too_great(length, len(place) + depth_in(words, part))
+    return is_too_great(length_in(words, pattern) - gone + length, len(place) + depth)

@@ -1,6 +1,6 @@
-"""Texts of sources made."""
+"""Texts of sources and of own forms made."""
 
-from formstead.patterns import is_leaf, nodes
+from formstead.patterns import is_leaf, names_begin, nodes
 
 
 def names_in_print(words, source):
@@ -82,7 +82,7 @@ def printed(words, source, names):
     tokens.extend(parts[-1])
     if box_names:
         tokens = ["(", "boxes"] + tokens + [")"]
-    return " ".join(tokens).replace("( ", "(").replace(" )", ")")
+    return joined(tokens)
 
 
 def tokens_of_part(rows, box_names):
@@ -100,7 +100,28 @@ def tokens_of_part(rows, box_names):
 
 
 def token_of_leaf(leaf, seen, box_names):
-    """The numeral or the name that stands for a leaf."""
+    """The text that stands for a leaf: a numeral, a name, or a hole in brackets."""
     if leaf[0] == "number":
         return str(leaf[1])
-    return box_names[leaf[1]] if leaf[0] == "at" else seen[len(seen) - 1 - leaf[1]]
+    if leaf[0] == "at":
+        return box_names[leaf[1]]
+    names = [seen[len(seen) - 1 - k] for k in leaf[names_begin(leaf):]]
+    return names[0] if leaf[0] == "name" else text_of_hole(leaf[1], names)
+
+
+def text_of_hole(number, names):
+    """The text of a hole, told or standing in a template, with these names."""
+    return "(" + " ".join([f"h{number + 1}"] + names) + ")"
+
+
+def printed_form(words, form):
+    """The text of an own form; the words are those of its book."""
+    word, names, template = form
+    holes = [text_of_hole(number, ["x1", "x2"][:many]) for number, many in enumerate(names)]
+    rows = named_rows(words, template, bound_names_in_print(words, template))
+    return joined(["(", "form", word] + holes + tokens_of_part(rows, []) + [")"])
+
+
+def joined(tokens):
+    """The text of these tokens, with one blank between two of them but beside brackets."""
+    return " ".join(tokens).replace("( ", "(").replace(" )", ")")

@@ -5,6 +5,8 @@ from formstead.patterns import is_too_great
 from formstead.shapes import rows_of_source
 from formstead.tokens import tokens_of
 
+TOLD_NAMES = ("bound", "box")
+
 
 def items_of_source(words, text):
     """The text of a source as items (ROLE, WHAT); raises InvalidText, each check over the whole text."""
@@ -30,6 +32,14 @@ def are_items_too_great(items):
 
 def built(items):
     """The source of these items."""
+    whole = nested_parts(items)[0]
+    if whole[0] == "boxes":
+        return (whole[1:-1], whole[-1])
+    return ((), whole)
+
+
+def nested_parts(items):
+    """What the items tell, in a list; each pair of brackets is a tuple, and told names are left out."""
     uses = [[]]
     for role, what in items:
         if role == "open":
@@ -37,9 +47,6 @@ def built(items):
         elif role == "close":
             use = tuple(uses.pop())
             uses[-1].append(use)
-        elif role in ("word", "boxes", "leaf"):
+        elif role not in TOLD_NAMES:
             uses[-1].append(what)
-    whole = uses[0][0]
-    if whole[0] == "boxes":
-        return (whole[1:-1], whole[-1])
-    return ((), whole)
+    return uses[0]

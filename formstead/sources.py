@@ -1,6 +1,6 @@
-"""What is a source."""
+"""What is a source, and its sizes."""
 
-from formstead.patterns import MAX_LENGTH, ats_in, fits, free_in, length_in
+from formstead.patterns import MAX_LENGTH, ats_in, depth_in, fits, free_in, is_too_great, length_in
 
 
 def is_closed_over(words, term, many):
@@ -21,3 +21,10 @@ def fits_source(words, value):
         if length > MAX_LENGTH:
             return False
     return True
+
+
+def is_source_too_great(words, source):
+    """Whether what is made as a source is would be too great for one."""
+    parts = (*source[0], source[1])
+    length = sum([length_in(words, part) for part in parts])
+    return is_too_great(length, max([depth_in(words, part) for part in parts]))

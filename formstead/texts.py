@@ -1,11 +1,11 @@
 """Texts of sources: read, printed and compared."""
 
-from formstead.errors import Captured, InvalidNames, InvalidSource, TooGreat
+from formstead.arguments import check_source
+from formstead.errors import Captured, InvalidNames, TooGreat
 from formstead.forms import words_of
 from formstead.kinds import is_name
 from formstead.printing import is_captured, names_in_print, printed
 from formstead.reading import are_items_too_great, built, items_of_source
-from formstead.sources import fits_source
 
 
 def read_source(book, text):
@@ -19,8 +19,7 @@ def read_source(book, text):
 def print_source(book, source, *, names=None):
     """The print of a source, or its text with other names, told in the order of the text."""
     words = words_of(book)
-    if not fits_source(words, source):
-        raise InvalidSource(source)
+    check_source(words, source)
     plain_names = names_in_print(words, source)
     if names is None:
         return printed(words, source, plain_names)

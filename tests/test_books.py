@@ -2,6 +2,7 @@
 
 import unittest
 
+from formstead.book import is_book
 from formstead.errors import InvalidBook
 from formstead.terms import is_term, names_of
 from formstead.texts import are_alike, print_source, read_source
@@ -26,8 +27,10 @@ class Books(unittest.TestCase):
             with self.assertRaises(InvalidBook) as caught:
                 call()
             self.assertEqual(caught.exception.index, index)
+        self.assertFalse(is_book(book))
 
     def taken(self, book):
+        self.assertTrue(is_book(book))
         self.assertTrue(is_term(book, ONE))
         self.assertEqual(read_source(book, "1"), ((), ONE))
         for word, names, _ in book:
@@ -46,6 +49,10 @@ class Books(unittest.TestCase):
     def test_books(self):
         for book in ((), (LET,), (LET, TWICE), BOOK):
             self.taken(book)
+
+    def test_anything_is_asked(self):
+        for value in odd_values():
+            self.assertEqual(is_book(value), value == ())
 
     def test_no_tuple(self):
         for book in (None, 0, "", "let", [], [LET], {}, {LET: 1}, {"let": LET}, object()):

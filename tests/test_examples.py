@@ -27,6 +27,30 @@ SIGNATURES = {
         "print_source": "(book, source, *, names=None)",
         "are_alike": "(book, text, other)",
     },
+    "booktexts": {
+        "read_book": "(text)",
+        "print_book": "(book)",
+    },
+    "book": {
+        "is_book": "(value)",
+        "opened": "(book, pattern)",
+        "open_places": "(book, pattern)",
+        "opened_at": "(book, pattern, place)",
+        "openings_left": "(book, pattern)",
+        "opened_length": "(book, pattern)",
+        "opened_depth": "(book, pattern)",
+        "opened_source": "(book, source)",
+    },
+    "plain": {
+        "is_value": "(value)",
+        "is_program": "(value)",
+        "outcome_of": "(program)",
+        "place_of": "(program)",
+        "met": "(program)",
+        "tidied": "(program)",
+        "next_of": "(program)",
+        "go_on": "(program, steps)",
+    },
 }
 
 
@@ -58,14 +82,14 @@ def told(typed, names):
 class Examples(unittest.TestCase):
     def test_examples_word_for_word(self):
         names, many = {}, 0
-        for module in ("terms", "texts"):
+        for module in ("terms", "texts", "booktexts", "book", "plain"):
             with open(os.path.join(HERE, "examples", module + ".txt"), encoding="ascii") as held:
                 session = examples(held.read())
             for typed, wanted in session:
                 with self.subTest(typed=typed):
                     self.assertEqual(told(typed, names), wanted)
                 many += 1
-        self.assertEqual(many, 19)
+        self.assertEqual(many, 41)
 
 
 class Interface(unittest.TestCase):
