@@ -1,7 +1,8 @@
 """The errors that are told for arguments of many functions."""
 
 from formstead.errors import (
-    InvalidNumber, InvalidParts, InvalidPlace, InvalidProgram, InvalidSource, InvalidTerm, InvalidWays,
+    InvalidNumber, InvalidParts, InvalidPlace, InvalidProgram, InvalidSizes, InvalidSource, InvalidTerm,
+    InvalidWays,
 )
 from formstead.kinds import is_count, is_tuple_up_to, is_whole_within
 from formstead.patterns import fits
@@ -10,6 +11,8 @@ from formstead.sources import fits_source
 from formstead.values import fits_program
 
 MAX_PUT_IN = 8
+LEAST_SIZES = (20, 1, 12, 20, 1)
+MOST_SIZES = (200, 40, 60, 400, 9)
 
 
 def check_term(words, term):
@@ -70,3 +73,18 @@ def check_parts(words, parts):
     for index, part in enumerate(parts):
         if not fits(words, part, False):
             raise InvalidParts(index)
+
+
+def are_sizes(value):
+    """Whether a value is the sizes of a memory."""
+    if not isinstance(value, tuple) or len(value) != len(LEAST_SIZES):
+        return False
+    return all([
+        is_whole_within(size, least, most) for size, least, most in zip(value, LEAST_SIZES, MOST_SIZES)
+    ])
+
+
+def check_sizes(sizes):
+    """Refuses what are no sizes of a memory."""
+    if not are_sizes(sizes):
+        raise InvalidSizes(sizes)

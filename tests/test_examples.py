@@ -82,14 +82,14 @@ def told(typed, names):
 class Examples(unittest.TestCase):
     def test_examples_word_for_word(self):
         names, many = {}, 0
-        for module in ("terms", "texts", "booktexts", "book", "plain"):
+        for module in ("terms", "texts", "booktexts", "book", "plain", "rows", "memory", "machine", "collector"):
             with open(os.path.join(HERE, "examples", module + ".txt"), encoding="ascii") as held:
                 session = examples(held.read())
             for typed, wanted in session:
                 with self.subTest(typed=typed):
                     self.assertEqual(told(typed, names), wanted)
                 many += 1
-        self.assertEqual(many, 41)
+        self.assertEqual(many, 73)
 
 
 class Interface(unittest.TestCase):

@@ -1,0 +1,43 @@
+"""Rows for a machine: the code of programs, its shape, and the term that it tells."""
+
+from formstead.arguments import check_program
+from formstead.codes import fits_code
+from formstead.coding import code_of_program
+from formstead.decoding import sizes_told, term_told
+from formstead.errors import BadRows, InvalidRows, TooGreat
+from formstead.patterns import is_too_great
+from formstead.walks import first_break_in, walked
+
+
+def code_of(program):
+    """The code of a program."""
+    check_program(program)
+    return code_of_program(program)
+
+
+def row_places(code):
+    """For each row the number of its body, and how many operands there are ahead of it."""
+    if not fits_code(code):
+        raise InvalidRows(code)
+    places, broken = walked(code)
+    if broken is not None:
+        raise BadRows(broken)
+    return tuple(places)
+
+
+def is_code(value):
+    """Whether a value, whatever it is, is code of the shape."""
+    return fits_code(value) and first_break_in(value) is None
+
+
+def term_of(code):
+    """What body 0's rows tell, with a box for each thing that it takes."""
+    if not fits_code(code):
+        raise InvalidRows(code)
+    broken = first_break_in(code)
+    if broken is not None:
+        raise BadRows(broken)
+    length, depth = sizes_told(code)
+    if is_too_great(length, depth):
+        raise TooGreat()
+    return term_told(code)
