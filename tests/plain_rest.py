@@ -1,4 +1,4 @@
-"""The rest of a memory, read by recursion as points 26 and 45 tell it: the machine is held against the plain meaning."""
+"""The rest of a memory, read by recursion as points 26 and 45 tell it."""
 
 from tests.helpers import is_leaf
 from tests.plain_steps import plain_tidied

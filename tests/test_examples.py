@@ -7,6 +7,9 @@ import unittest
 
 HERE = os.path.dirname(os.path.abspath(__file__))
 
+# In the order of the document, whose sessions go on from module to module.
+MODULES = ("terms", "texts", "booktexts", "book", "plain", "rows", "memory", "machine", "collector", "runs")
+
 SIGNATURES = {
     "terms": {
         "is_term": "(book, value)",
@@ -51,6 +54,49 @@ SIGNATURES = {
         "next_of": "(program)",
         "go_on": "(program, steps)",
     },
+    "rows": {
+        "code_of": "(program)",
+        "row_places": "(code)",
+        "is_code": "(value)",
+        "term_of": "(code)",
+    },
+    "memory": {
+        "read_word": "(word)",
+        "number_word": "(number)",
+        "address_word": "(place)",
+        "mark_word": "(mark)",
+        "header_word": "(kind, fields)",
+        "laid_out": "(sizes, code)",
+        "read_register": "(memory, name)",
+        "sizes_of": "(memory)",
+        "code_at": "(memory)",
+        "area": "(memory, place)",
+        "in_use": "(memory, place)",
+        "led_to": "(memory, word)",
+        "object_at": "(memory, place)",
+        "objects": "(memory, name)",
+        "frames": "(memory)",
+    },
+    "machine": {
+        "begun": "(program, sizes)",
+        "stepped": "(memory)",
+        "makes_step": "(memory)",
+        "outcome": "(memory)",
+    },
+    "collector": {
+        "room": "(memory)",
+        "moved": "(memory, place)",
+        "fetched": "(memory, word)",
+        "begun_small": "(memory)",
+        "small_step": "(memory)",
+        "begun_great": "(memory)",
+        "great_step": "(memory)",
+        "reached": "(memory)",
+        "collected": "(memory)",
+    },
+    "runs": {
+        "run": "(memory, steps)",
+    },
 }
 
 
@@ -82,14 +128,14 @@ def told(typed, names):
 class Examples(unittest.TestCase):
     def test_examples_word_for_word(self):
         names, many = {}, 0
-        for module in ("terms", "texts", "booktexts", "book", "plain", "rows", "memory", "machine", "collector"):
+        for module in MODULES:
             with open(os.path.join(HERE, "examples", module + ".txt"), encoding="ascii") as held:
                 session = examples(held.read())
             for typed, wanted in session:
                 with self.subTest(typed=typed):
                     self.assertEqual(told(typed, names), wanted)
                 many += 1
-        self.assertEqual(many, 73)
+        self.assertEqual(many, 75)
 
 
 class Interface(unittest.TestCase):

@@ -126,7 +126,8 @@ class OpeningOne(unittest.TestCase):
     def test_wrong_places(self):
         pattern = ("pair", ("twice", ONE), ("let", ONE, name(0)))
         self.assertEqual(open_places(BOOK, pattern), ((0,), (1,)))
-        for place in odd_values() + [(), (0, 0), (1, 1), (2,), (-1,), (True,), (False,), [0], [], "0", ("0",), (0, 0, 0)]:
+        wrong = [(), (0, 0), (1, 1), (2,), (-1,), (True,), (False,), [0], [], "0", ("0",), (0, 0, 0)]
+        for place in odd_values() + wrong:
             with self.assertRaises(InvalidPlace) as caught:
                 opened_at(BOOK, pattern, place)
             self.assertIs(caught.exception.given, place)

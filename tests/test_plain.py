@@ -78,7 +78,8 @@ class Programs(unittest.TestCase):
     def test_no_programs(self):
         wrong = [
             ((), name(0)), ((), at(0)), ((STEP,), ONE), ((ONE, ("pair", ONE, STEP)), ONE), ((at(1),), ONE), [(), ONE],
-            ([], ONE), ((ONE,), at(1)), ((("fn", name(1)),), ONE), ((), ("let", ONE, ONE)), ((), ONE, ()), ((), ("hole", 0)),
+            ([], ONE), ((ONE,), at(1)), ((("fn", name(1)),), ONE), ((), ("let", ONE, ONE)), ((), ONE, ()),
+            ((), ("hole", 0)),
             ((values(1499), ONE), ONE), ((), deep_term(61)), (ONE, ()), ((("pair", ("fn", name(1)), ONE),), ONE),
         ]
         for value in odd_values() + wrong:
@@ -87,8 +88,7 @@ class Programs(unittest.TestCase):
         self.assertTrue(is_program(((), deep_term(60))))
 
     def test_refused(self):
-        calls = (outcome_of, place_of, met, tidied, next_of, lambda value: go_on(value, 1), lambda value: go_on(value, -1))
-        for call in calls:
+        for call in (outcome_of, place_of, met, tidied, next_of, lambda told: go_on(told, 1), lambda told: go_on(told, -1)):
             for value in odd_values() + [((STEP,), ONE), ((), name(0)), [(), ONE]]:
                 with self.assertRaises(InvalidProgram) as caught:
                     call(value)
@@ -175,7 +175,8 @@ class Steps(unittest.TestCase):
             one, other = ("number", left), ("number", right)
             self.steps(("plus", one, other), ("number", left + right))
             self.steps(("minus", one, ("number", -right)), ("number", left + right))
-        for left, right in ((3, 4), (-3, 4), (-3, -4), (0, -999999999), (27027027, 37), (-37, 27027027), (1, 999999999)):
+        for left, right in ((3, 4), (-3, 4), (-3, -4), (0, -999999999), (27027027, 37), (-37, 27027027),
+                            (1, 999999999)):
             self.steps(("times", ("number", left), ("number", right)), ("number", left * right))
         self.steps(("minus", ("number", 3), ("number", 5)), ("number", -2))
 

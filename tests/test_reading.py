@@ -379,7 +379,8 @@ class Alike(unittest.TestCase):
 
     def test_alike_exactly_if_the_prints_are(self):
         texts = [
-            "1", "(fn x 1)", "(fn y 1)", "(fn x x)", "(fn y y)", "(fn x (fn x x))", "(fn x (fn y y))", "(fn x (fn y x))",
+            "1", "(fn x 1)", "(fn y 1)", "(fn x x)", "(fn y y)", "(fn x (fn x x))", "(fn x (fn y y))",
+            "(fn x (fn y x))",
             "(boxes 1)", "(boxes a 1 1)", "(boxes b 1 1)", "(boxes b 1 b)", "(boxes a 1 (fn a a))",
             "(boxes a 1 (fn b a))",
         ]
