@@ -1,7 +1,7 @@
 """The small and the great collection, step by step, and whole ones."""
 
-from formstead.layout import is_address_in_nursery, other_half, place_through, room_in
-from formstead.stores import lead_from_nursery, lead_from_other
+from formstead.layout import is_address_in_nursery, is_address_in_other, other_half, place_through, room_in
+from formstead.stores import lead_anew
 from formstead.wordsorts import told_by
 
 
@@ -37,6 +37,18 @@ def step_small(store):
         store.write("look", look + 1)
     else:
         end_small(store)
+
+
+def lead_from_nursery(store, place):
+    """Leads the word at a place anew if it is the address of a place in the nursery."""
+    if is_address_in_nursery(store.words, store.words[place]):
+        lead_anew(store, place)
+
+
+def lead_from_other(store, place):
+    """Leads the word at a place anew if it is the address of a place in the other half."""
+    if is_address_in_other(store.words, store.words[place]):
+        lead_anew(store, place)
 
 
 def place_of_remembered(store, kept):
@@ -106,10 +118,3 @@ def is_collected_whole(store):
         begin_great(store)
     finish_great(store)
     return True
-
-
-def is_put_held_up(store, box, value):
-    """Whether a value cannot be put into a box as long as no more boxes can be remembered."""
-    full = store.read("many") == store.read("nursery") - store.read("remembered")
-    is_young_box = is_address_in_nursery(store.words, box)
-    return full and not is_young_box and is_address_in_nursery(store.words, value)

@@ -1,8 +1,8 @@
 """Small steps of the machine done."""
 
 from formstead.collecting import begin_small, step_great, step_small
-from formstead.layout import is_address_in_nursery, place_of_body
-from formstead.settling import next_row, settled
+from formstead.layout import place_of_body
+from formstead.settling import is_put_remembered, next_row, settled
 from formstead.steps import reckoned
 from formstead.stores import fetch
 from formstead.wordsorts import told_by, word_of_address, word_of_header, word_of_mark, word_of_number
@@ -118,7 +118,7 @@ def put(store):
     """Does the row put, but for going on."""
     box, value = take(store, 2)
     store.words[told_by(box) + 1] = value
-    if not is_address_in_nursery(store.words, box) and is_address_in_nursery(store.words, value):
+    if is_put_remembered(store, box, value):
         store.words[store.read("remembered") + store.read("many")] = box
         store.grow("many", 1)
     push(store, value)

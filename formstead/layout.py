@@ -58,6 +58,11 @@ def is_address_in_nursery(memory, word):
     return is_address_word(word) and is_in_nursery(memory, told_by(word))
 
 
+def is_address_in_other(memory, word):
+    """Whether a word is the address of a place in the half that is not in use."""
+    return is_address_word(word) and is_in_other(memory, told_by(word))
+
+
 def room_in(memory):
     """The free words of the half in use, without those that are kept for what may still be moved."""
     end = number_at(memory, "half") + number_at(memory, "size")

@@ -1,7 +1,7 @@
 """What the next small step of a memory is."""
 
-from formstead.collecting import has_room_for_nursery, is_put_held_up
-from formstead.layout import kind_there, place_of_row
+from formstead.collecting import has_room_for_nursery
+from formstead.layout import is_address_in_nursery, kind_there, place_of_row
 from formstead.operations import op_word
 from formstead.patterns import GREATEST_NUMBER
 from formstead.steps import reckoned
@@ -85,14 +85,21 @@ def held_up(store, row):
     wanted = 2 + captured if word == "close" else NURSERY_WANTED.get(word, 0)
     if wanted > store.read("first") - store.read("nursery"):
         return "room"
-    if wanted <= store.read("first") - store.read("young") and not (word == "put" and is_this_put_held_up(store)):
+    if wanted <= store.read("first") - store.read("young") and not (word == "put" and is_put_held_up(store)):
         return "row"
     if has_room_for_nursery(store):
         return "begin"
     return "great" if store.read("great") == 1 else "room"
 
 
-def is_this_put_held_up(store):
+def is_put_held_up(store):
     """Whether the put that comes next needs room among the remembered boxes that is not there."""
+    if store.read("many") < store.read("nursery") - store.read("remembered"):
+        return False
     box, value = last_operands(store, 2)
-    return is_put_held_up(store, box, value)
+    return is_put_remembered(store, box, value)
+
+
+def is_put_remembered(store, box, value):
+    """Whether a box has to be remembered into which a value is put: an older box, something of the nursery."""
+    return is_address_in_nursery(store.words, value) and not is_address_in_nursery(store.words, box)

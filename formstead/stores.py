@@ -1,9 +1,9 @@
 """A memory that is being changed, and things moved in it."""
 
 from formstead.layout import (
-    PLACES, is_address_in_nursery, is_in_other, number_at, place_through, words_of_object,
+    PLACES, is_address_in_other, is_in_other, number_at, place_through, words_of_object,
 )
-from formstead.wordsorts import is_address_word, told_by, word_of_address, word_of_mark
+from formstead.wordsorts import told_by, word_of_address, word_of_mark
 
 
 class Store:
@@ -46,22 +46,12 @@ def move(store, place):
 
 def fetch(store, word):
     """The word that fetching gives."""
-    if store.read("great") == 1 and is_address_word(word) and is_in_other(store.words, told_by(word)):
+    if store.read("great") == 1 and is_address_in_other(store.words, word):
         return word_of_address(move(store, told_by(word)))
     return word
 
 
-def lead_from_nursery(store, place):
-    """Leads the word at a place anew if it is the address of a place in the nursery."""
-    word = store.words[place]
-    if is_address_in_nursery(store.words, word):
-        copy = move(store, told_by(word))
-        store.words[place] = word_of_address(copy)
-
-
-def lead_from_other(store, place):
-    """Leads the word at a place anew if it is the address of a place in the other half."""
-    word = store.words[place]
-    if is_address_word(word) and is_in_other(store.words, told_by(word)):
-        copy = move(store, told_by(word))
-        store.words[place] = word_of_address(copy)
+def lead_anew(store, place):
+    """Leads the word at a place, an address, anew."""
+    copy = move(store, told_by(store.words[place]))
+    store.words[place] = word_of_address(copy)

@@ -10,12 +10,11 @@ MAX_ARMS = 60
 class Arm:
     """One of the two ways of a test, as long as it is walked."""
 
-    def __init__(self, is_second, is_at_end, ground, limit, onward):
+    def __init__(self, is_second, is_at_end, ground, limit):
         self.is_second = is_second
         self.is_at_end = is_at_end
         self.ground = ground
         self.limit = limit
-        self.onward = onward
 
 
 class Walk:
@@ -109,7 +108,7 @@ class Walk:
             return False
         if not all([op_word(self.rows[ahead][0]) in CAPTURING for ahead in range(row - many, row)]):
             return False
-        if many > 0 and any([ahead in self.left_ahead for ahead in range(row - many + 1, row + 1)]):
+        if any([ahead in self.left_ahead for ahead in range(row - many + 1, row + 1)]):
             return False
         self.operands += 1 - many
         return True
@@ -122,20 +121,21 @@ class Walk:
         op, onward, _ = self.rows[other - 1]
         if op == OP_NUMBERS["go"]:
             is_right = other - 1 > row + 1 and other < onward <= self.limit_here()
-            self.arms.append(Arm(False, False, self.operands, other - 1, onward))
+            self.arms.append(Arm(False, False, self.operands, other - 1))
             return is_right
         is_right = self.are_all_at_end() and self.operands == 0 and other <= self.limit_here()
-        self.arms.append(Arm(False, True, 0, other - 1, None))
+        self.arms.append(Arm(False, True, 0, other - 1))
         return is_right
 
     def is_go_passed(self, row, onward):
         """Whether a go may stand here; it is passed."""
         if not self.arms or self.arms[-1].is_second or self.arms[-1].is_at_end:
             return False
-        if self.limit_here() != row or self.arms[-1].onward != onward or self.above() != 1:
+        if self.limit_here() != row or self.above() != 1:
             return False
         self.operands -= 1
-        self.arms.append(Arm(True, False, self.arms.pop().ground, onward, None))
+        first = self.arms.pop()
+        self.arms.append(Arm(True, False, first.ground, onward))
         return True
 
     def is_end_passed(self, row, many):
@@ -149,7 +149,7 @@ class Walk:
             self.has_ended = True
             return True
         self.arms.pop()
-        self.arms.append(Arm(True, True, 0, self.limit_here(), None))
+        self.arms.append(Arm(True, True, 0, self.limit_here()))
         return True
 
     def are_all_at_end(self):

@@ -54,6 +54,13 @@ def check_kind(file, node):
             file.breach(node, "L7", "a generator expression that is not taken at once")
     if isinstance(node, ast.Starred) and isinstance(file.parent(node), ast.Set):
         file.breach(node, "L7", "a star in a set")
+    if isinstance(node, ast.Starred) and isinstance(file.parent(node), ast.Call) and not is_plainly_named(node.value):
+        file.breach(node, "L7", "a star in a call over what is neither a name nor an attribute")
+
+
+def is_plainly_named(node):
+    """Whether a node is a name or an attribute off one."""
+    return isinstance(node.value if isinstance(node, ast.Attribute) else node, ast.Name)
 
 
 def is_ellipsis(node):

@@ -88,7 +88,8 @@ class Programs(unittest.TestCase):
         self.assertTrue(is_program(((), deep_term(60))))
 
     def test_refused(self):
-        for call in (outcome_of, place_of, met, tidied, next_of, lambda told: go_on(told, 1), lambda told: go_on(told, -1)):
+        going = (lambda told: go_on(told, 1), lambda told: go_on(told, -1))
+        for call in (outcome_of, place_of, met, tidied, next_of, *going):
             for value in odd_values() + [((STEP,), ONE), ((), name(0)), [(), ONE]]:
                 with self.assertRaises(InvalidProgram) as caught:
                     call(value)

@@ -448,6 +448,7 @@ class Shapes(unittest.TestCase):
     def test_a_go_that_no_test_tells(self):
         self.breaks([number(1), go(2), BACK], 1)
         self.breaks([number(1), test(5), number(2), go(4), go(6), number(3), BACK], 3)
+        self.breaks([number(1), test(5), number(2), go(6), go(6), number(3), BACK], 3)
         self.breaks([number(1), test(4), number(2), go(5), go(5), BACK], 4)
         # B of a go to which no test leads is looked at by none but the go itself.
         self.breaks([number(1), (12, 2, 5), BACK], 1)

@@ -50,7 +50,8 @@ def caught(n):
         return doubled(k, by=n)
 
     try:
-        return told((again(n),), most=1)
+        rows = (again(n),)
+        return told((again(*rows),), most=1)
     except Wrong as error:
         return error.place
 '''
@@ -83,6 +84,7 @@ BREACHES = [
     ("L7", "def told(n):\n    return n / 2\n"),
     ("L7", "def told():\n    return 1.5\n"),
     ("L7", "def told(rows):\n    made = (row for row in rows)\n    return made\n"),
+    ("L7", "from pack.other import doubled\n\n\ndef told(rows):\n    return doubled(*sorted(rows))\n"),
     ("L8", "def told(n):\n    return hash(n)\n"),
     ("L8", "def told():\n    print(1)\n"),
     ("L8", "def told():\n    return missing\n"),
