@@ -2,6 +2,7 @@
 
 from formstead.errors import NoRoom
 from formstead.machine import begun
+from formstead.memory import in_use
 from formstead.plain import is_program
 from formstead.texts import read_source
 from tests.plain_rest import registers
@@ -45,6 +46,26 @@ def random_machine(row):
         return program, begun(program, random_sizes(row))
     except NoRoom:
         return None, None
+
+
+def with_free_words_changed(row, memory):
+    """The memory with other words in some of its free places."""
+    words = list(memory)
+    for place in range(len(memory)):
+        if not in_use(memory, place) and row.randrange(3):
+            words[place] = row.choice([4 * row.randrange(-9, 9), 4 * row.randrange(len(memory)) + 1, 71, 43, 35,
+                                       4 * row.randrange(9) + 2])
+    return tuple(words)
+
+
+def free_words_are_not_read(row, memory, step):
+    """Whether a step does the same whatever stands in free places."""
+    other = with_free_words_changed(row, memory)
+    behind, found = step(memory), step(other)
+    if behind is None or found is None:
+        return behind is None and found is None
+    told = zip(memory, behind, other, found)
+    return all(late == new or old == new and late == was for old, new, was, late in told)
 
 
 def places_of_objects(memory, begin, end):

@@ -10,7 +10,9 @@ from formstead.machine import outcome, stepped
 from formstead.memory import led_to, object_at, objects, read_register
 from formstead.runs import run
 from tests.helpers import odd_values, rng
-from tests.machines import BUSY, assert_sound, begin, random_machine
+from tests.machines import (
+    BUSY, assert_sound, begin, free_words_are_not_read, random_machine, with_free_words_changed,
+)
 from tests.plain_machine import Machine, after
 from tests.plain_rest import plain_rest, registers
 
@@ -535,6 +537,22 @@ class KeepingTheRest(unittest.TestCase):
                 assert_sound(behind)
                 memory = behind
         self.assertGreater(min(steps.values()), 150, steps)
+
+    def test_free_words_are_not_read(self):
+        for seed in range(60):
+            row = rng(seed)
+            _, memory = random_machine(row)
+            if memory is None:
+                continue
+            memory = run(memory, row.randrange(100))[0]
+            if outcome(memory) != "room":
+                self.assertTrue(free_words_are_not_read(row, memory, collected))
+            changed = with_free_words_changed(row, memory)
+            self.assertEqual((reached(changed), room(changed)), (reached(memory), room(memory)))
+            for name, step in (("small", small_step), ("great", great_step)):
+                while read_register(memory, name) and not (name == "great" and read_register(memory, "small")):
+                    self.assertTrue(free_words_are_not_read(row, memory, step))
+                    memory = step(memory)
 
     def test_behind_the_ends(self):
         for text in BUSY[:3]:

@@ -10,7 +10,9 @@ from formstead.plain import next_of, tidied
 from formstead.rows import code_of
 from formstead.runs import run
 from tests.helpers import odd_values, rng
-from tests.machines import BUSY, SMALL_SIZES, assert_sound, begin, random_machine, source
+from tests.machines import (
+    BUSY, SMALL_SIZES, assert_sound, begin, free_words_are_not_read, random_machine, source,
+)
 from tests.plain_machine import Machine
 from tests.plain_rest import plain_rest, registers
 from tests.plain_steps import plain_next, plain_tidied
@@ -664,6 +666,16 @@ class AgainstThePlainMeaning(unittest.TestCase):
                 seen[amid] = seen.get(amid, 0) + 1
         self.assertGreater(min(seen.values()), 50, seen)
         self.assertEqual(len(seen), 4)
+
+    def test_free_words_are_not_read(self):
+        for seed in range(30):
+            row = rng(seed)
+            _, memory = random_machine(row)
+            if memory is None:
+                continue
+            for _ in range(80):
+                self.assertTrue(free_words_are_not_read(row, memory, lambda told: stepped(told)[0]))
+                memory = stepped(memory)[0]
 
     def test_in_roomy_and_in_small_sizes_alike(self):
         for text in BUSY:
