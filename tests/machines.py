@@ -19,6 +19,35 @@ BUSY = (
     "(put b (fn u (pair u x)))))) 15))",
 )
 SMALL_SIZES = (20, 1, 12, 20, 1)
+ROOMY = (200, 40, 60, 400, 9)
+
+
+def n(number):
+    """The word that is a number."""
+    return 4 * number
+
+
+def a(place):
+    """The word that is the address of a place."""
+    return 4 * place + 1
+
+
+def m(mark):
+    """The word that is a mark."""
+    return 4 * mark + 2
+
+
+def with_words(memory, words):
+    """The memory with other words at some places."""
+    told = list(memory)
+    for place, word in words.items():
+        told[place] = word
+    return tuple(told)
+
+
+def changes(before, behind):
+    """The words that were changed, by their places."""
+    return {place: word for place, (old, word) in enumerate(zip(before, behind)) if old != word}
 
 
 def source(text):

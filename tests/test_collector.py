@@ -11,36 +11,13 @@ from formstead.memory import led_to, object_at, objects, read_register
 from formstead.runs import run
 from tests.helpers import odd_values, rng
 from tests.machines import (
-    BUSY, assert_sound, begin, free_words_are_not_read, random_machine, with_free_words_changed,
+    BUSY, ROOMY, a, assert_sound, begin, changes, free_words_are_not_read, m, n, random_machine,
+    with_free_words_changed, with_words,
 )
 from tests.plain_machine import Machine, after
 from tests.plain_rest import plain_rest, registers
 
-ROOMY = (200, 40, 60, 400, 9)
 PAIRS = "(boxes b 1 c (pair b 2) (pair (put b (pair 3 c)) (pair 4 (box 5))))"
-
-
-def n(number):
-    return 4 * number
-
-
-def a(place):
-    return 4 * place + 1
-
-
-def m(mark):
-    return 4 * mark + 2
-
-
-def with_words(memory, words):
-    told = list(memory)
-    for place, word in words.items():
-        told[place] = word
-    return tuple(told)
-
-
-def changes(before, behind):
-    return {place: word for place, (old, word) in enumerate(zip(before, behind)) if old != word}
 
 
 def filled(memory, left):

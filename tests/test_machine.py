@@ -11,38 +11,12 @@ from formstead.rows import code_of
 from formstead.runs import run
 from tests.helpers import odd_values, rng
 from tests.machines import (
-    BUSY, SMALL_SIZES, assert_sound, begin, free_words_are_not_read, random_machine, source,
+    BUSY, ROOMY, SMALL_SIZES, a, assert_sound, begin, changes, free_words_are_not_read, m, n, random_machine, source,
+    with_words,
 )
 from tests.plain_machine import Machine
 from tests.plain_rest import plain_rest, registers
 from tests.plain_steps import plain_next, plain_tidied
-
-ROOMY = (200, 40, 60, 400, 9)
-
-
-def n(number):
-    return 4 * number
-
-
-def a(place):
-    return 4 * place + 1
-
-
-def m(mark):
-    return 4 * mark + 2
-
-
-def with_words(memory, words):
-    """The memory with words at some places; registers may be told by their names."""
-    told = list(memory)
-    for place, word in words.items():
-        told[place] = word
-    return tuple(told)
-
-
-def changes(before, behind):
-    """The words that were changed, by their places."""
-    return {place: word for place, (old, word) in enumerate(zip(before, behind)) if old != word}
 
 
 class Beginning(unittest.TestCase):
