@@ -7,10 +7,7 @@ from formstead.wordsorts import (
     fields_of_header, is_address_word, is_header_word, kind_of_header, told_by, word_of_mark, word_of_number,
 )
 
-REGISTERS = (
-    "status", "row", "base", "top", "young", "old", "half", "great", "small", "scan", "low", "look", "step", "kept",
-    "many", "left", "owed", "bodies", "rows", "stack", "remembered", "nursery", "first", "size", "pace", "edge",
-)
+# The registers by their names, in the order of their places.
 PLACES = {
     "status": 0, "row": 1, "base": 2, "top": 3, "young": 4, "old": 5, "half": 6, "great": 7, "small": 8, "scan": 9,
     "low": 10, "look": 11, "step": 12, "kept": 13, "many": 14, "left": 15, "owed": 16, "bodies": 17, "rows": 18,
@@ -145,7 +142,7 @@ def laid_out_words(sizes, code):
     told["remembered"] = told["stack"] + stack
     told["nursery"] = told["young"] = told["remembered"] + remembered
     told["first"] = told["half"] = told["old"] = told["nursery"] + nursery
-    words = [word_of_mark(told.get(name, 0)) for name in REGISTERS]
+    words = [word_of_mark(told.get(name, 0)) for name in PLACES]
     for body in bodies:
         words.extend([word_of_mark(number) for number in body])
     for op, first, second in rows:

@@ -134,7 +134,7 @@ def random_value(row, size, boxes):
         return (word, sensible(row, size, 1 if word == "fn" else 2, boxes))
     if kind == "pair" and size > 0:
         return ("pair", random_value(row, size - 1, boxes), random_value(row, size - 1, boxes))
-    return ("number", row.choice([0, 0, 1, 2, -3, 999999999]))
+    return ("number", row.choice([0, 0, 1, 2, -3, 999999999, row.randrange(30, 200)]))
 
 
 def sensible(row, size, outward, boxes):
@@ -143,7 +143,8 @@ def sensible(row, size, outward, boxes):
         kinds = ["number"] + ["name"] * (2 if outward else 0) + ["at"] * (1 if boxes else 0)
         kind = row.choice(kinds)
         if kind == "number":
-            return ("number", row.choice([0, 0, 1, 2, -3, 70000]))
+            # Numbers like those of places in memories are among them.
+            return ("number", row.choice([0, 0, 1, 2, -3, 70000, row.randrange(30, 200), row.randrange(30, 200)]))
         return (kind, row.randrange(outward if kind == "name" else boxes))
     size -= row.randrange(1, 3)
 

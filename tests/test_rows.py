@@ -227,6 +227,17 @@ class ReadAsTerms(unittest.TestCase):
         found = (((0, 0, 0),), tuple(rows + [(19, 0, 0), (19, 0, 0), BACK]))
         self.assertRaises(TooGreat, term_of, found)
 
+    def test_functions_just_as_long_as_may_be(self):
+        inner = tuple(self.balanced(748) + [(19, 0, 0)])
+        self.assertEqual(len(inner), 1496)
+        for kind, says, length in ((0, 1, 1499), (0, 2, 1500), (0, 3, 1501), (1, 0, 1499), (1, 1, 1500), (1, 2, 1501)):
+            rows = ((4, 1, 0), BACK) + inner + ((19, 0, 0),) * says + (BACK,)
+            found = (((0, 0, 0), (2, kind, 0)), rows)
+            if length <= 1500:
+                self.assertEqual(plain_length(term_of(found)), length)
+            else:
+                self.assertRaises(TooGreat, term_of, found)
+
     def balanced(self, leaves):
         if leaves == 1:
             return [number(1)]
