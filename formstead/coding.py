@@ -53,8 +53,9 @@ def bodies_of(program):
         bodies.extend([body_of(function) for function in functions_in(box)])
     looked = 0
     while looked < len(bodies):
-        bodies[looked].inner = len(bodies)
-        bodies.extend([body_of(function) for function in functions_in(bodies[looked].part)])
+        body = bodies[looked]
+        body.inner = len(bodies)
+        bodies.extend([body_of(function) for function in functions_in(body.part)])
         looked += 1
     return bodies
 

@@ -181,6 +181,8 @@ def check_attribute(file, node, methods, attributes):
     """Attributes that are stored and read."""
     if isinstance(node.ctx, ast.Store) and node.attr in NO_ATTRIBUTES:
         file.breach(node, "L26", f"the attribute {node.attr}")
+    if isinstance(node.ctx, ast.Store) and not isinstance(node.value, ast.Name):
+        file.breach(node, "L18", f"the attribute {node.attr} is not assigned through a name")
     around = file.parent(node)
     is_called = isinstance(around, ast.Call) and around.func is node
     if not is_called and node.attr not in attributes and isinstance(node.ctx, ast.Load):

@@ -1,6 +1,7 @@
 """What several tests need: odd values, own forms, random terms, and a second, plainer telling of the document."""
 
 import random
+import tracemalloc
 
 LET = ("let", (0, 1), ("call", ("fn", ("hole", 1, 0)), ("hole", 0)))
 TWICE = ("twice", (0,), ("let", ("hole", 0), ("plus", ("name", 0), ("name", 0))))
@@ -149,9 +150,20 @@ def deep_term(depth):
     return term
 
 
-def long_term(length):
-    """A closed term of a length, of little depth."""
+def long_term(length, leaf=("number", 1)):
+    """A term of a length, of little depth, with one leaf everywhere; closed, if this is."""
     if length < 3:
-        return ("number", 1) if length == 1 else ("say", ("number", 1))
+        return leaf if length == 1 else ("say", leaf)
     left = (length - 1) // 2
-    return ("pair", long_term(left), long_term(length - 1 - left))
+    return ("pair", long_term(left, leaf), long_term(length - 1 - left, leaf))
+
+
+def most_memory(call):
+    """How many bytes were held at most at one time while a call went on, whatever it came to."""
+    tracemalloc.start()
+    try:
+        call()
+    finally:
+        most = tracemalloc.get_traced_memory()[1]
+        tracemalloc.stop()
+    return most

@@ -9,7 +9,8 @@ from formstead.errors import (
 )
 from formstead.terms import depth_of, is_term, led, length_of, part_at, put_in, replaced
 from tests.helpers import (
-    BOOK, WORDS, by_levels, deep_term, long_term, nested, odd_values, plain_depth, random_term, rng, with_free,
+    BOOK, WORDS, by_levels, deep_term, long_term, most_memory, nested, odd_values, plain_depth, random_term, rng,
+    with_free,
 )
 
 ONE = ("number", 1)
@@ -186,10 +187,9 @@ class PuttingIn(unittest.TestCase):
         self.assertEqual(put_in((), ("fn", name(0)), (deep_term(60),)), ("fn", name(0)))
 
     def test_too_great_is_settled_without_building(self):
-        term = name(0)
-        for _ in range(7):
-            term = ("test", term, term, term) if length_of((), term) * 3 < 1500 else term
-        self.assertRaises(TooGreat, put_in, (), term, (long_term(1500),))
+        # Seven hundred times the part: what would be built has tens of millions of bytes.
+        term, part = long_term(1399, name(0)), long_term(1400)
+        self.assertLess(most_memory(lambda: self.assertRaises(TooGreat, put_in, (), term, (part,))), 5000000)
 
     def test_sizes_are_those_of_what_is_built(self):
         many = {True: 0, False: 0}

@@ -109,6 +109,24 @@ class SmallCollections(unittest.TestCase):
         self.assertRaises(NotNow, small_step, here)
         self.assertEqual(small_step(memory=begun_small(memory)), small_step(begun_small(memory)))
 
+    def test_each_remembered_box_in_turn(self):
+        text = "(boxes b 1 c 2 (test (first (put b (pair 3 4))) 0 (test (first (put c (pair 5 6))) 0 7)))"
+        memory = run(begin(text, (20, 4, 20, 100, 1)), 14)[0]
+        told = registers(memory)
+        nursery, half, stack, old = told["nursery"], told["half"], told["stack"], told["old"]
+        # Nothing but the two boxes leads to the two pairs.
+        self.assertEqual([told["many"], told["top"], told["young"]], [2, stack + 4, nursery + 6])
+        here = begun_small(memory)
+        for _ in range(4):
+            here = small_step(here)
+        for kept, number in ((0, 3), (1, 5)):
+            here, before = small_step(here), here
+            pair, copy = nursery + 3 * kept, old + 3 * kept
+            self.assertEqual(changes(before, here), {
+                13: m(kept + 1), 5: m(copy + 3), half + 2 * kept + 1: a(copy), pair: a(copy), copy: 71,
+                copy + 1: n(number), copy + 2: n(number + 1),
+            })
+
     def test_what_is_moved_is_looked_at_later(self):
         memory = run(begin("(pair (pair (pair 1 2) 3) (say 4))", (20, 1, 12, 40, 1)), 5)[0]
         old, stack = read_register(memory, "old"), read_register(memory, "stack")

@@ -12,7 +12,8 @@ from formstead.errors import (
 )
 from formstead.terms import boxes_in, depth_of, free_names, is_pattern, is_term, led, length_of, part_at, put_in
 from tests.helpers import (
-    BOOK, LET, TWICE, deep_term, long_term, odd_values, plain_depth, plain_length, random_source, random_term, rng,
+    BOOK, LET, TWICE, deep_term, long_term, most_memory, odd_values, plain_depth, plain_length, random_source,
+    random_term, rng,
 )
 from tests.plain_opening import fully_opened, opened_in, places
 
@@ -187,6 +188,13 @@ class OpeningAll(unittest.TestCase):
         self.assertEqual(openings_left(book, use), (11 ** 8 - 1) // 10)
         self.assertEqual(opened_length(book, use), 11 ** 8 + 1)
         self.assertEqual(opened_depth(book, use), 11 ** 8 + 1)
+
+    def test_settled_without_building(self):
+        book = chain(8, eleven_times)
+        self.assertLess(most_memory(lambda: self.assertRaises(TooGreat, opened, book, ("ch", ONE))), 1000000)
+        source = ((("fn", ("ch", ONE)),), ("ch", ("ch", ONE)))
+        self.assertLess(most_memory(lambda: self.assertRaises(TooGreat, opened_source, book, source)), 1000000)
+        self.assertLess(most_memory(lambda: opened_length(book, ("ch", ("ch", ONE)))), 1000000)
 
     def test_deep_chain(self):
         def template(word):

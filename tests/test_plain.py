@@ -5,7 +5,7 @@ import unittest
 from formstead.errors import InvalidNumber, InvalidProgram, TooGreat
 from formstead.plain import go_on, is_program, is_value, met, next_of, outcome_of, place_of, tidied
 from formstead.texts import read_source
-from tests.helpers import CORE, deep_term, long_term, odd_values, plain_length, rng
+from tests.helpers import CORE, deep_term, long_term, most_memory, odd_values, plain_length, rng
 from tests.plain_steps import plain_met, plain_next, plain_place, plain_tidied, random_program
 
 ONE, TWO, FIVE = ("number", 1), ("number", 2), ("number", 5)
@@ -343,6 +343,14 @@ class TooGreatSteps(unittest.TestCase):
     def test_not_for_a_fault_nor_for_a_value(self):
         self.assertEqual(next_of(((), values(1500)))[0], "end")
         self.assertEqual(next_of(((), ("first", ("fn", values(1497)))))[0], "kind")
+
+    def test_settled_without_building(self):
+        # What would be built has tens of millions of bytes.
+        for word in ("fn", "again"):
+            program = ((), ("call", (word, long_term(749, name(0))), values(745)))
+            self.assertTrue(is_program(program))
+            self.assertLess(most_memory(lambda: self.assertRaises(TooGreat, next_of, program)), 5000000)
+            self.assertLess(most_memory(lambda: self.assertRaises(TooGreat, go_on, program, 9)), 5000000)
 
     def test_many_steps_until_it_is_too_great(self):
         doubling = read_source((), "(call (again f x (call f (pair x x))) 1)")

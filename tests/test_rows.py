@@ -2,11 +2,12 @@
 
 import unittest
 
+from formstead.decoding import Frame, RowReader, TermMaker
 from formstead.errors import BadRows, InvalidProgram, InvalidRows, TooGreat
 from formstead.plain import is_program
 from formstead.rows import code_of, is_code, row_places, term_of
 from formstead.texts import read_source
-from tests.helpers import deep_term, long_term, odd_values, plain_depth, plain_length, rng
+from tests.helpers import deep_term, long_term, most_memory, odd_values, plain_depth, plain_length, rng
 from tests.plain_rest import read
 from tests.plain_shape import plain_fit, plain_walk
 from tests.plain_steps import random_program
@@ -168,6 +169,24 @@ class ReadAsTerms(unittest.TestCase):
             captured = [("at", k) for k in range(len(program[0]))]
             self.assertEqual(read(found, 0, [], None, None, captured, None), program[1])
 
+    def test_from_any_row_on(self):
+        # As the rest of a machine is told: with a stock, in the arms of tests, too.
+        gone = 0
+        for seed in range(200):
+            program = random_program(rng(seed), rng(seed).randrange(4, 12))
+            if not is_program(program):
+                continue
+            found = code_of(program)
+            for row, (body, many) in enumerate(row_places(found)):
+                stock = [("say", ("number", k)) for k in range(many)]
+                captured = [("box", ("number", k)) for k in range(found[0][body][2])]
+                frame = Frame(ONE, TWO, captured)
+                told = RowReader(found, TermMaker()).read_rows(row, None, stock, frame)
+                self.assertEqual(told, read(found, row, stock, ONE, TWO, captured, None))
+                self.assertEqual(len(stock), many)
+                gone += found[1][row][0] == 12
+        self.assertGreater(gone, 20)
+
     def test_limits_of_programs(self):
         for term in (long_term(1500), deep_term(60), long_term(1499)):
             self.assertEqual(term_of(code_of(((), term))), term)
@@ -216,6 +235,9 @@ class ReadAsTerms(unittest.TestCase):
                 self.assertEqual(plain_length(term_of(found)), length)
             else:
                 self.assertRaises(TooGreat, term_of, found)
+        # Settled without building: what would be built has thousands of millions of parts.
+        found = self.doubled(30)
+        self.assertLess(most_memory(lambda: self.assertRaises(TooGreat, term_of, found)), 1000000)
         self.assertRaises(TooGreat, term_of, self.doubled(3000))
 
     def test_just_as_long_as_may_be(self):
@@ -250,6 +272,18 @@ class ReadAsTerms(unittest.TestCase):
                 self.assertEqual(plain_depth(term_of(found)), says + 1)
             else:
                 self.assertRaises(TooGreat, term_of, found)
+        # The deepest part counts, wherever it stands.
+        for says, fits in ((58, True), (59, False)):
+            deep, flat = [number(1)] + [(19, 0, 0)] * says, [number(2)]
+            asked = [number(0), test(4 + says), *deep, go(5 + says), *flat]
+            other = [number(0), test(4), *flat, go(5 + says), *deep]
+            for rows in (deep + flat + [PLUS, BACK], flat + deep + [PLUS, BACK], asked + [BACK], other + [BACK],
+                         deep + [test(says + 4), *flat, BACK, *flat, BACK]):
+                found = (((0, 0, 0),), tuple(rows))
+                if fits:
+                    self.assertEqual(plain_depth(term_of(found)), 60)
+                else:
+                    self.assertRaises(TooGreat, term_of, found)
         for kind, functions in ((0, 59), (1, 59), (0, 60), (1, 60), (0, 4000)):
             bodies = tuple([(2 * k, kind if k else 0, 0) for k in range(functions + 1)])
             rows = [row for k in range(functions) for row in ((4, k + 1, 0), BACK)] + [number(1), BACK]
@@ -412,6 +446,13 @@ class Shapes(unittest.TestCase):
         self.breaks([(4, 1, 0), BACK, (4, 2, 0), BACK, (4, 1, 0), BACK], 4, bodies)
         self.breaks([(4, 1, 0), BACK, (4, 2, 0), BACK, (4, 3, 0), BACK], 4, bodies)
         self.holds([(4, 2, 0), BACK, (4, 2, 0), BACK, number(1), BACK], bodies)
+
+    def test_close_ahead_of_which_too_little_stands(self):
+        # What is captured is looked for in the body's own rows alone, and so never behind the last row of all.
+        self.breaks([(4, 1, 1), BACK, number(1), ARGUMENT], 0, [(0, 0, 0), (2, 0, 1)])
+        self.breaks([(4, 1, 1500), BACK, number(1), BACK], 0, [(0, 0, 0), (2, 0, 1500)])
+        self.breaks([number(1), BACK, ARGUMENT, (4, 2, 2), BACK, number(1), BACK], 3,
+                    [(0, 0, 0), (2, 0, 0), (5, 0, 2)])
 
     def test_close_with_argument_and_self(self):
         bodies = [(0, 0, 0), (2, 1, 0), (6, 0, 2)]

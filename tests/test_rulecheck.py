@@ -100,6 +100,7 @@ BREACHES = [
     ("L17", "def told():\n    return 'the type of it'\n"),
     ("L17", "def told(dir):\n    return 1\n"),
     ("L18", "def told(box):\n    return box.missing\n"),
+    ("L18", "def told(boxes):\n    boxes[0].many = 1\n"),
     ("L18", "class Odd:\n    def many(self):\n        self.many = 1\n"),
     ("L19", "def told():\n    raise ValueError('x')\n"),
     ("L19", "def told(rows):\n    try:\n        return rows[1]\n    except IndexError:\n        return 1\n"),
