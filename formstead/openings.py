@@ -2,6 +2,7 @@
 
 from formstead.leading import exchanged, led_pattern, sizes_with
 from formstead.patterns import is_leaf
+from formstead.places import placed
 from formstead.words import CORE_WORDS
 
 
@@ -85,12 +86,4 @@ def openings_and_sizes(table, pattern):
 
 def places_of_uses(templates, pattern):
     """The places of all uses of the forms that have these templates, ascending."""
-    places, due = [], [((), pattern)]
-    while due:
-        place, node = due.pop()
-        if is_leaf(node):
-            continue
-        if node[0] in templates:
-            places.append(place)
-        due.extend([(place + (index,), part) for index, part in enumerate(node[1:])][::-1])
-    return tuple(places)
+    return tuple([place for place, node in placed(pattern) if node[0] in templates])

@@ -16,6 +16,17 @@ def is_place(pattern, place):
     return True
 
 
+def placed(pattern):
+    """All places in a pattern, each with what stands there, ascending."""
+    rows, due = [], [((), pattern)]
+    while due:
+        place, node = due.pop()
+        rows.append((place, node))
+        if not is_leaf(node):
+            due.extend([(place + (index,), part) for index, part in enumerate(node[1:])][::-1])
+    return rows
+
+
 def part_there(pattern, place):
     """What stands at a place."""
     here = pattern

@@ -3,9 +3,9 @@
 from formstead.arguments import check_program
 from formstead.codes import fits_code
 from formstead.coding import code_of_program
-from formstead.decoding import sizes_told, term_told
-from formstead.errors import BadRows, InvalidRows, TooGreat
-from formstead.patterns import is_too_great
+from formstead.decoding import Frame, RowReader
+from formstead.errors import BadRows, InvalidRows
+from formstead.growing import Grower
 from formstead.walks import first_break_in, walked
 
 
@@ -37,7 +37,6 @@ def term_of(code):
     broken = first_break_in(code)
     if broken is not None:
         raise BadRows(broken)
-    length, depth = sizes_told(code)
-    if is_too_great(length, depth):
-        raise TooGreat()
-    return term_told(code)
+    reader = RowReader(code)
+    boxes = Frame(None, None, [("at", number) for number in range(code[0][0][2])])
+    return Grower(reader, None).grown(reader.read_rows(0, None, [], boxes), None, 0, 1)

@@ -2,6 +2,7 @@
 
 from formstead.arguments import check_number
 from formstead.doing import do_small_step
+from formstead.judging import check_memory
 from formstead.stores import Store
 
 MOST_STEPS = 100000
@@ -9,6 +10,7 @@ MOST_STEPS = 100000
 
 def run(memory, steps):
     """The memory behind so many small steps, and the tuple of all that is said in them."""
+    check_memory(memory)
     check_number(steps, 0, MOST_STEPS)
     store, said = Store(memory), []
     for _ in range(steps):

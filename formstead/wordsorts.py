@@ -40,6 +40,11 @@ def is_address_word(word):
     return word % 4 == 1
 
 
+def is_mark_word(word):
+    """Whether a word is a mark."""
+    return word % 4 == 2
+
+
 def is_header_word(word):
     """Whether a word is a header."""
     return word % 4 == 3

@@ -8,7 +8,7 @@ import unittest
 HERE = os.path.dirname(os.path.abspath(__file__))
 
 # In the order of the document, whose sessions go on from module to module.
-MODULES = ("terms", "texts", "booktexts", "book", "plain", "rows", "memory", "machine", "collector", "runs")
+MODULES = ("terms", "texts", "booktexts", "book", "plain", "rows", "memory", "machine", "collector", "sound", "runs", "rest")
 
 SIGNATURES = {
     "terms": {
@@ -94,8 +94,17 @@ SIGNATURES = {
         "reached": "(memory)",
         "collected": "(memory)",
     },
+    "sound": {
+        "first_wrong": "(value)",
+        "is_sound": "(value)",
+    },
     "runs": {
         "run": "(memory, steps)",
+    },
+    "rest": {
+        "rest": "(memory)",
+        "rest_text": "(book, memory)",
+        "are_at_one": "(memory, other)",
     },
 }
 
@@ -135,7 +144,7 @@ class Examples(unittest.TestCase):
                 with self.subTest(typed=typed):
                     self.assertEqual(told(typed, names), wanted)
                 many += 1
-        self.assertEqual(many, 75)
+        self.assertEqual(many, 84)
 
 
 class Interface(unittest.TestCase):

@@ -3,7 +3,7 @@
 import unittest
 
 from formstead.collector import begun_great, begun_small, room
-from formstead.errors import InvalidNumber, InvalidProgram, InvalidSizes, NoRoom
+from formstead.errors import InvalidMemory, InvalidNumber, InvalidProgram, InvalidSizes, NoRoom
 from formstead.machine import begun, makes_step, outcome, stepped
 from formstead.memory import area, frames, laid_out, objects, read_register
 from formstead.plain import next_of, tidied
@@ -560,7 +560,6 @@ class Statuses(unittest.TestCase):
             self.assertEqual(outcome(memory=told), name)
             if status:
                 self.assertEqual(stepped(told), (told, ()))
-                self.assertEqual(run(told, 5), (told, ()))
                 amid = with_words(begun_small(memory), {0: m(status)})
                 self.assertEqual(stepped(amid), (amid, ()))
         self.assertEqual(stepped(memory=memory), stepped(memory))
@@ -587,6 +586,18 @@ class Runs(unittest.TestCase):
                 run(memory, steps)
             self.assertIs(caught.exception.given, steps)
         self.assertEqual(outcome(run(memory, 100000)[0]), "ended")
+
+    def test_no_sound_memory(self):
+        for value in odd_values():
+            with self.assertRaises(InvalidMemory) as caught:
+                run(value, None)
+            self.assertEqual(caught.exception.index, None if not isinstance(value, tuple) or len(value) < 26 else 0)
+        memory = run(begin("(plus 1 2)", ROOMY), 2)[0]
+        for told, index in ((with_words(memory, {0: m(2)}), 0), (memory[:-1], 23), (with_words(memory, {26: 0}), 26)):
+            for steps in (-1, 0, True):
+                with self.assertRaises(InvalidMemory) as caught:
+                    run(told, steps)
+                self.assertEqual(caught.exception.index, index)
 
     def test_many_steps(self):
         memory = begin("(call (again f x (call f (plus x 1))) 0)")

@@ -2,8 +2,9 @@
 
 import unittest
 
-from formstead.decoding import Frame, RowReader, TermMaker
+from formstead.decoding import Frame, RowReader
 from formstead.errors import BadRows, InvalidProgram, InvalidRows, TooGreat
+from formstead.growing import Grower
 from formstead.plain import is_program
 from formstead.rows import code_of, is_code, row_places, term_of
 from formstead.texts import read_source
@@ -181,7 +182,8 @@ class ReadAsTerms(unittest.TestCase):
                 stock = [("say", ("number", k)) for k in range(many)]
                 captured = [("box", ("number", k)) for k in range(found[0][body][2])]
                 frame = Frame(ONE, TWO, captured)
-                told = RowReader(found, TermMaker()).read_rows(row, None, stock, frame)
+                reader = RowReader(found)
+                told = Grower(reader, None).grown(reader.read_rows(row, None, stock, frame), None, 0, 1)
                 self.assertEqual(told, read(found, row, stock, ONE, TWO, captured, None))
                 self.assertEqual(len(stock), many)
                 gone += found[1][row][0] == 12
