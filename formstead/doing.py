@@ -4,11 +4,23 @@ from formstead.collecting import begin_small, step_great, step_small
 from formstead.layout import place_of_body
 from formstead.settling import is_put_remembered, next_row, settled
 from formstead.steps import reckoned
-from formstead.stores import fetch
+from formstead.stores import Store, fetch
 from formstead.wordsorts import told_by, word_of_address, word_of_header, word_of_mark, word_of_number
 
 ENDED = 1
+MOST_STEPS = 100000
 STATUS_OF = {"kind": 2, "excess": 3, "room": 4}
+
+
+def behind_small_steps(memory, steps):
+    """The memory behind so many small steps, and the tuple of all that is said in them."""
+    store, said = Store(memory), []
+    for _ in range(steps):
+        # In any other status nothing changes any more.
+        if store.read("status") != 0:
+            break
+        said.extend(do_small_step(store))
+    return (store.as_memory(), tuple(said))
 
 
 def do_small_step(store):

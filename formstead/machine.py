@@ -4,11 +4,8 @@ from formstead.arguments import check_program, check_sizes
 from formstead.beginning import begun_store
 from formstead.doing import do_small_step
 from formstead.errors import NoRoom
-from formstead.layout import number_at
-from formstead.settling import MAKING, next_row, settled
+from formstead.settling import MAKING, next_row, outcome_in, settled
 from formstead.stores import Store
-
-OUTCOMES = ("runs", "ended", "kind", "great", "room")
 
 
 def begun(program, sizes):
@@ -36,4 +33,4 @@ def makes_step(memory):
 
 def outcome(memory):
     """What has come of the machine, by its status."""
-    return OUTCOMES[number_at(memory, "status")]
+    return outcome_in(memory)

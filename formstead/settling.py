@@ -1,12 +1,13 @@
 """What the next small step of a memory is."""
 
 from formstead.collecting import has_room_for_nursery
-from formstead.layout import is_address_in_nursery, kind_there, place_of_row
+from formstead.layout import is_address_in_nursery, kind_there, number_at, place_of_row
 from formstead.operations import op_word
 from formstead.patterns import GREATEST_NUMBER
 from formstead.steps import reckoned
 from formstead.wordsorts import is_number_word, told_by
 
+OUTCOMES = ("runs", "ended", "kind", "great", "room")
 # Of what kind the operands are that a row wants, the first of those that it takes first.
 WANTED = {
     "call": ("closure", "any"),
@@ -25,6 +26,11 @@ STACK_WANTED = {"number": 1, "taken": 1, "argument": 1, "self": 1, "call": 2}
 NURSERY_WANTED = {"pair": 3, "box": 2}
 # What a row that is done makes the plain next step of.
 MAKING = ("call", "tail", "first", "second", "test", "plus", "minus", "times", "box", "look", "put", "say")
+
+
+def outcome_in(memory):
+    """What has come of a machine, by the status of its memory."""
+    return OUTCOMES[number_at(memory, "status")]
 
 
 def next_row(store):

@@ -126,10 +126,18 @@ def check_name(file, node):
         return
     if node.id in file.defined() or node.id in file.imports:
         return
+    if node.id == "property" and is_decorator_of_method(file, node):
+        return
     if node.id not in CALLED and node.id not in ERRORS and not (node.id == "print" and file.name == "__main__.py"):
         file.breach(node, "L8", f"{node.id} is neither bound nor a builtin that is used")
     if node.id in CALLED and not is_builtin_in_place(file, node):
         file.breach(node, "L22", f"{node.id} is kept or passed on")
+
+
+def is_decorator_of_method(file, node):
+    """Whether a name is the one decorator of a method."""
+    around = file.parent(node)
+    return isinstance(around, ast.FunctionDef) and around.decorator_list == [node]
 
 
 def is_builtin_in_place(file, node):

@@ -3,12 +3,14 @@
 import importlib
 import inspect
 import os
+import sys
 import unittest
 
 HERE = os.path.dirname(os.path.abspath(__file__))
 
 # In the order of the document, whose sessions go on from module to module.
-MODULES = ("terms", "texts", "booktexts", "book", "plain", "rows", "memory", "machine", "collector", "sound", "runs", "rest")
+MODULES = ("terms", "texts", "booktexts", "book", "plain", "rows", "memory", "machine", "collector", "sound", "runs", "rest", "shortest",
+           "settled", "images", "console")
 
 SIGNATURES = {
     "terms": {
@@ -106,6 +108,32 @@ SIGNATURES = {
         "rest_text": "(book, memory)",
         "are_at_one": "(memory, other)",
     },
+    "shortest": {
+        "shortest": "(book, term)",
+        "shortest_source": "(book, program)",
+        "texts": "(book, term)",
+    },
+    "settled": {
+        "stands": "(book, pattern)",
+        "put_back": "(book, pattern, place, form)",
+        "folded": "(book, pattern)",
+        "overlaps": "(book)",
+        "least_pattern": "(book, first, place, second)",
+        "is_settled": "(book)",
+        "parting": "(book)",
+    },
+    "images": {
+        "blank": "(width)",
+        "held": "(device, slot)",
+        "current": "(device)",
+        "is_mended": "(device)",
+        "mending": "(device)",
+        "saving": "(device, memory)",
+        "written": "(device, writes, many, torn=None)",
+        "mended": "(device)",
+        "saved": "(device, memory)",
+        "taken_up": "(device)",
+    },
 }
 
 
@@ -115,23 +143,42 @@ def examples(text):
     for line in text.rstrip("\n").split("\n"):
         if line.startswith(">>> "):
             found.append([line[4:], []])
-        else:
+        elif line.startswith("... "):
+            found[-1][0] += "\n" + line[4:]
+        elif line:
             found[-1][1].append(line)
     return [(typed, "\n".join(told)) for typed, told in found]
 
 
 def told(typed, names):
     """What a typed line tells, as the document writes it."""
+    shown, hook = [], sys.displayhook
+    sys.displayhook = lambda value: shown.append(repr(value))
     try:
-        code = compile(typed, "<example>", "eval")
-    except SyntaxError:
-        exec(typed, names)
-        return ""
-    try:
-        value = eval(code, names)
+        exec(compile(typed + "\n", "<example>", "single"), names)
     except ValueError as error:
         return f"raises {type(error).__name__}({', '.join([repr(held) for held in vars(error).values()])})"
-    return repr(value)
+    finally:
+        sys.displayhook = hook
+    return "\n".join(shown)
+
+
+METHODS = {
+    "__init__": "(self, book, *, sizes=(60, 8, 30, 200, 3), width=2000)",
+    "load": "(self, text)",
+    "step": "(self, steps=1)",
+    "rest": "(self)",
+    "collect": "(self)",
+    "resize": "(self, sizes)",
+    "save": "(self)",
+    "cut": "(self, many, torn=None)",
+    "take": "(self)",
+    "undo": "(self)",
+    "trial": "(self)",
+    "answer": "(self, line)",
+    "tried": "(self, lines)",
+}
+PROPERTIES = ("book", "sizes", "device", "memory", "said", "outcome")
 
 
 class Examples(unittest.TestCase):
@@ -144,7 +191,7 @@ class Examples(unittest.TestCase):
                 with self.subTest(typed=typed):
                     self.assertEqual(told(typed, names), wanted)
                 many += 1
-        self.assertEqual(many, 84)
+        self.assertEqual(many, 112)
 
 
 class Interface(unittest.TestCase):
@@ -155,6 +202,15 @@ class Interface(unittest.TestCase):
                 with self.subTest(module=module, name=name):
                     self.assertEqual(str(inspect.signature(getattr(found, name))), signature)
                     self.assertEqual(getattr(found, name).__module__, "formstead." + module)
+
+    def test_methods_and_properties_are_defined_in_the_class_itself(self):
+        made = importlib.import_module("formstead.console").Console
+        self.assertEqual(made.__module__, "formstead.console")
+        for name, signature in METHODS.items():
+            self.assertEqual(str(inspect.signature(vars(made)[name])), signature)
+        for name in PROPERTIES:
+            self.assertIsInstance(vars(made)[name], property)
+            self.assertRaises(AttributeError, setattr, made(()), name, None)
 
 
 if __name__ == "__main__":
