@@ -7,6 +7,7 @@ from formstead.booktexts import print_book, read_book
 from formstead.errors import InvalidBook, InvalidText
 from tests.helpers import BOOK, CORE, LET, TWICE, odd_values, rng
 from tests.plain_book_reader import Wrong, plain_forms, plain_print_book
+from tests.random_books import random_book, random_template
 from tests.test_openings import WIDE
 
 ONE = ("number", 1)
@@ -281,37 +282,6 @@ class Prints(Books):
         self.assertEqual(caught.exception.index, 1)
         self.assertEqual(print_book(book=(LET,)), print_book((LET,)))
         self.assertEqual(read_book(text=""), ())
-
-
-def random_book(row):
-    """A random book; what is no form is left out."""
-    book = []
-    for letter in "abcdefgh":
-        words = {**CORE, **{form[0]: form[1] for form in book}}
-        names = tuple([row.randrange(3) for _ in range(row.randrange(1, 4))])
-        for _ in range(30):
-            left = list(range(len(names)))
-            form = ("own" + letter, names, random_template(row, words, names, left, 0, row.randrange(2, 6)))
-            if is_book((*book, form)):
-                book.append(form)
-                break
-    return tuple(book)
-
-
-def random_template(row, words, names, left, outward, size):
-    """A random template, in which each hole is told once if there is a place for it."""
-    if size <= 0 or row.randrange(4) == 0 and size < 4:
-        for number in left:
-            if names[number] <= outward:
-                left.remove(number)
-                return ("hole", number) + tuple(row.sample(range(outward), names[number]))
-        if outward:
-            return ("name", row.randrange(outward))
-        return ("number", row.randrange(-3, 4))
-    word = row.choice(sorted(words) + ["fn", "again", "test"])
-    return (word,) + tuple([
-        random_template(row, words, names, left, outward + many, size - row.randrange(1, 3)) for many in words[word]
-    ])
 
 
 class AgainstTheSecondReader(unittest.TestCase):
