@@ -77,6 +77,8 @@ BREACHES = [
     ("L15", "def hash(n):\n    return n\n"),
     ("L15", "def told(id):\n    return id\n"),
     ("L4", "@staticmethod\ndef told():\n    return 1\n"),
+    ("L4", "@property\ndef told():\n    return 1\n"),
+    ("L8", "def told():\n    return property\n"),
     ("L4", "def told(rows=[]):\n    return rows\n"),
     ("L5", "class Odd(object):\n    pass\n"),
     ("L5", "class Odd:\n    def __hash__(self):\n        return 1\n"),
