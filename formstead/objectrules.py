@@ -116,8 +116,9 @@ def no_end(case):
             leading[target].append(place)
     due = [place for place in left if left[place] == 0]
     while due:
-        # From here each way comes to an end, so none of the ways to here is one without end.
-        for place in leading[due.pop()]:
+        ended = due.pop()
+        # From here each way comes to an end, so none of the ways that lead here goes on without one.
+        for place in leading[ended]:
             left[place] -= 1
             if left[place] == 0:
                 due.append(place)

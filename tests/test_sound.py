@@ -2,11 +2,13 @@
 
 import unittest
 
-from formstead.collector import begun_great, begun_small, collected, great_step, moved, reached, small_step
+from formstead.collector import (
+    begun_great, begun_small, collected, fetched, great_step, moved, reached, small_step,
+)
 from formstead.errors import InvalidMemory, NoRoom, NotNow, NotThere
 from formstead.layout import laid_out_words
 from formstead.machine import makes_step, outcome, stepped
-from formstead.memory import frames, in_use, laid_out, objects, read_register
+from formstead.memory import frames, in_use, laid_out, led_to, object_at, objects, read_register
 from formstead.rows import code_of
 from formstead.runs import run
 from formstead.sound import first_wrong, is_sound
@@ -222,9 +224,14 @@ class Rule6(Base):
             if number >= 0:
                 self.wrong(with_words(memory, {place: m(number)}), 6, place)
 
+    def in_each_status(self, memories):
+        for memory in memories:
+            for status in range(5):
+                yield with_words(memory, {0: m(status)}), registers(memory)
+
     def test_always(self):
-        for memory in (PLAIN, BOTH, begun_small(PLAIN), begun_great(begin(DEEP, ROOMY))):
-            told = registers(memory)
+        memories = (PLAIN, BOTH, begun_small(PLAIN), begun_great(begin(DEEP, ROOMY)))
+        for memory, told in self.in_each_status(memories):
             self.bounds(memory, "status", 0, 4)
             self.bounds(memory, "row", 0, told["rows"] - 1)
             self.bounds(memory, "young", told["nursery"], told["first"])
@@ -234,6 +241,10 @@ class Rule6(Base):
             self.later(with_words(memory, {14: m(most)}), 6)
             self.wrong(with_words(memory, {14: m(most + 1)}), 6, 14)
             self.later(with_words(memory, {14: m(told["kept"] if told["small"] else 0)}), 6)
+            self.later(with_words(memory, {2: m(told["stack"])}), 6)
+            self.later(with_words(memory, {2: m(told["top"])}), 6)
+            self.wrong(with_words(memory, {2: m(told["stack"] - 1)}), 6, 2)
+            self.wrong(with_words(memory, {2: m(told["top"] + 1)}), 6, 2)
 
     def test_base_and_top(self):
         told = registers(PLAIN)
@@ -265,8 +276,7 @@ class Rule6(Base):
         self.later(with_words(PLAIN, {6: m(first + size), 5: m(first + size)}), 6)
 
     def test_great(self):
-        for memory in (begun_great(begin(DEEP, ROOMY)), BOTH):
-            told = registers(memory)
+        for memory, told in self.in_each_status((begun_great(begin(DEEP, ROOMY)), BOTH)):
             other = 2 * told["first"] + told["size"] - told["half"]
             self.bounds(memory, "scan", told["half"], told["old"])
             self.bounds(memory, "low", told["stack"], told["top"])
@@ -277,15 +287,15 @@ class Rule6(Base):
                 self.wrong(with_words(memory, {7: m(number)}), 6, 7)
 
     def test_no_great(self):
-        for memory in (PLAIN, begun_small(PLAIN)):
+        for memory, _ in self.in_each_status((PLAIN, begun_small(PLAIN))):
             for name in ("left", "owed", "edge"):
                 self.bounds(memory, name, 0, 0)
             for number in (0, 1, 50, 999999999):
-                self.sound(with_words(memory, {9: m(number), 10: m(number)}))
+                self.later(with_words(memory, {9: m(number), 10: m(number)}), 6)
+                self.sound(with_words(PLAIN, {9: m(number), 10: m(number)}))
 
     def test_small(self):
-        for memory in (begun_small(PLAIN), BOTH):
-            told = registers(memory)
+        for memory, told in self.in_each_status((begun_small(PLAIN), BOTH)):
             self.bounds(memory, "look", told["half"], told["old"])
             self.bounds(memory, "step", told["stack"], told["top"])
             self.bounds(memory, "kept", 0, told["many"])
@@ -883,6 +893,19 @@ class StaySound(unittest.TestCase):
     def assert_sound(self, memory):
         self.assertIsNone(first_wrong(memory))
 
+    def check_fetches(self, memory):
+        """What lies in the stack, and in the fields of objects that were not moved, may be fetched."""
+        words = [word for _, _, operands in frames(memory) for word in operands]
+        words += [memory[base + at] for base, _, _ in frames(memory) for at in (0, 1)]
+        for name in ("nursery", "half", "other"):
+            for place, kind, copy in objects(memory, name):
+                if copy is None:
+                    words += object_at(memory, place)[1][1 if kind == "closure" else 0:]
+        for word in set(words):
+            behind, found = fetched(memory, word)
+            self.assert_sound(behind)
+            self.assertIn(found, (word, a(led_to(behind, word) or 0)))
+
     def check_moves(self, memory):
         for name in ("nursery", "half", "other"):
             for place, _, copy in objects(memory, name):
@@ -901,6 +924,7 @@ class StaySound(unittest.TestCase):
                 continue
             self.assert_sound(here)
             self.check_moves(here)
+            self.check_fetches(here)
             while read_register(here, name) and not (name == "great" and read_register(here, "small")):
                 here = step(here)
                 self.assert_sound(here)
@@ -934,6 +958,7 @@ class StaySound(unittest.TestCase):
                 continue
             self.assert_sound(memory)
             self.check_moves(memory)
+            self.check_fetches(memory)
             self.check_collections(memory)
             for _ in range(25):
                 memory = stepped(memory)[0]
