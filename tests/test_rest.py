@@ -5,7 +5,7 @@ import unittest
 from formstead.collector import begun_great, begun_small, collected, fetched, moved
 from formstead.errors import InvalidBook, InvalidMemory, NoRoom, NotNow, NotThere, TooGreat
 from formstead.machine import begun, makes_step, outcome, stepped
-from formstead.memory import frames, objects, read_register
+from formstead.memory import frames, led_to, objects, read_register
 from formstead.plain import go_on, is_program, next_of, outcome_of, tidied
 from formstead.rest import are_at_one, rest, rest_text
 from formstead.runs import run
@@ -380,9 +380,16 @@ class Limits(unittest.TestCase):
             self.assertIsNone(first_wrong(great))
             self.assertEqual(rest_text((), great), "(plus (say 3) 4)")
         # What the running function captured, behind the row that takes it.
-        text = "(boxes b 0 (call (fn x (plus (say 3) (look b))) 5))"
-        memory = run(begin(text, ROOMY), 99)[0]
-        self.assertEqual(rest(memory), ((), ("number", 3)))
+        memory = run(begin("(call (fn y (call (fn x (plus y (say 4))) 5)) 6)", ROOMY), 8)[0]
+        self.assertEqual(rest_text((), memory), "(plus 6 (say 4))")
+        writer = ValueWriter(memory)
+        word = writer.of_length(10 ** 9 + 1)
+        closure = led_to(memory, memory[read_register(memory, "base")])
+        self.assertEqual(memory[closure + 2], n(6))
+        great = writer.memory({closure + 2: word})
+        # From the nursery an address may lead to the half in use.
+        self.assertIsNone(first_wrong(great))
+        self.assertEqual(rest_text((), great), "(plus 6 (say 4))")
         # A box that is not met.
         writer = ValueWriter(begin("(boxes b 5 (say 4))", ROOMY))
         word = writer.of_length(10 ** 9 + 1)

@@ -356,6 +356,9 @@ class Overlaps(unittest.TestCase):
                                      (0, (0, True), 1), (0, [], 1), (0, (7,), 1)):
             self.assertRaises(DoesNotStand, least_pattern, book, first, place, second)
         self.assertRaises(DoesNotStand, least_pattern, (), 0, (), 1)
+        self.assertEqual(overlaps((SAYS,)), ((0, (0,), 0),))
+        for first, second in ((0, -1), (-1, 0), (0, 1), (1, 0), (False, 0), (0, False)):
+            self.assertRaises(DoesNotStand, least_pattern, (SAYS,), first, (0,), second)
         self.assertEqual(least_pattern(second=1, place=(), first=0, book=book), call(("hole", 0), ("hole", 1)))
 
 

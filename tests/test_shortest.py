@@ -63,6 +63,11 @@ class Shortest(unittest.TestCase):
         self.told((other,), ("fn", ("fn", name(1))), ("fn", ("fn", name(1))), 4)
         two = ("swap", (2,), ("again", ("hole", 0, 0, 1)))
         self.told((two,), ("again", ("call", name(1), name(0))), ("again", ("call", name(1), name(0))), 2)
+        # With a leaf of its own, and two holes that are told two names each: 5 and the parts on either side.
+        asked = ("asked", (2, 2), ("again", ("test", ("hole", 0, 1, 0), ("hole", 1, 1, 0), ONE)))
+        term = ("again", ("test", name(0), name(1), ONE))
+        self.assertEqual(length_of((asked,), ("asked", name(0), name(1))), length_of((), term))
+        self.told((asked,), term, term, 2)
         # Outside in: the core word at the root, though the form's part comes ahead in the book within.
         part = ("over", (0, 0), ("pair", ("hole", 0), ("hole", 1)))
         self.told((part, other), ("pair", ("fn", ONE), TWO), ("pair", ("fn", ONE), TWO), 4)

@@ -467,6 +467,9 @@ class Rule10(Base):
         self.wrong(with_words(memory, {half + 3: a(nursery)}), 10, half + 3)
         self.wrong(with_words(memory, {pair + 2: a(nursery)}), 10, pair + 2)
         self.wrong(with_words(memory, {14: m(0)}), 10, half + 1)
+        # Of the words beside the remembered ones none is asked.
+        self.wrong(with_words(memory, {half + 3: a(nursery), told["remembered"] - 1: a(half + 2)}), 10, half + 3)
+        self.wrong(with_words(memory, {half + 3: a(nursery), told["remembered"] + 1: a(half + 2)}), 10, half + 3)
         # A small one asks the remembered boxes from kept on, and what stands at look or above.
         amid = begun_small(memory)
         self.sound(amid)
@@ -491,6 +494,17 @@ class Rule10(Base):
         # From the other half only within it, to signposts, too.
         self.sound(with_words(behind, {first + 3: a(pair)}))
         self.wrong(with_words(behind, {first + 3: a(copy)}), 10, first + 3)
+
+    def test_from_the_other_half_to_the_nursery(self):
+        # Amid both collections, too, and whichever of the two halves is the one in use.
+        for first_in_use in (True, False):
+            memory = wild_with(lambda memory, told: told["great"] and told["small"] and told["young"] > told["nursery"]
+                               and told["left"] > 2 and (told["half"] == told["first"]) is first_in_use)
+            nursery = objects(memory, "nursery")[0][0]
+            for place, kind, copy in objects(memory, "other"):
+                fields = {"closure": [], "pair": [1, 2], "box": [1]}[kind] if copy is None else []
+                for field in fields:
+                    self.wrong(with_words(memory, {place + field: a(nursery)}), 10, place + field)
 
     def test_what_was_moved_is_not_asked(self):
         memory = begun_great(begin("(boxes b (pair 1 2) (pair b b))", (20, 4, 20, 100, 1)))
@@ -713,6 +727,9 @@ class Rule13(Base):
         boxes = {half + k: BOX if k % 2 == 0 else 0 for k in range(14)}
         self.sound(with_words(memory, {5: m(half + 12)} | boxes))
         self.wrong(with_words(memory, {5: m(half + 14)} | boxes), 13, 5)
+        boxes[half + 10], boxes[half + 11], boxes[half + 12] = PAIR, 0, 0
+        self.wrong(with_words(memory, {5: m(half + 13)} | boxes), 13, 5)
+        boxes[half + 10], boxes[half + 12] = BOX, BOX
         # With both wrong that of old is told.
         self.wrong(with_words(memory, {5: m(half + 14), 15: m(left + 1)} | boxes), 13, 5)
         self.wrong(with_words(memory, {5: m(half + 14), 15: m(0)} | boxes), 13, 15)
