@@ -39,7 +39,7 @@ class Grower:
             tree, around = around.captured[tree[1]], around.outer
         if tree[0] == "word":
             tree, around = self.tree_of_word(tree[1]), None
-        self.count(1, depth)
+        self.weigh(1, depth)
         if tree[0] == "close":
             return self.grown_function(tree, around, outward, depth)
         if tree[0] == "argument":
@@ -54,13 +54,13 @@ class Grower:
         """The function of a closed body."""
         _, number, *captured = tree
         kind = self.reader.bodies[number][1]
-        self.count(kind + 1, depth)
+        self.weigh(kind + 1, depth)
         inside = Around(outward, kind, captured, around)
         part = self.grown(self.reader.part_of_body(number), inside, outward + kind + 1, depth + 1)
         return ("again" if kind == 1 else "fn", part)
 
-    def count(self, length, depth):
-        """Counts what has grown."""
+    def weigh(self, length, depth):
+        """Counts what has grown; raises TooGreat where it is too much."""
         self.length += length
         if is_too_great(self.length, depth):
             raise TooGreat()
