@@ -10,47 +10,47 @@ from formstead.wordsorts import is_address_word, is_header_word, is_mark_word, t
 ENDED = 1
 
 
-def no_stack_word(case):
+def no_stack_word(judged):
     """Rule 11: the words in use of the stack."""
-    for place in range(case.told["stack"], case.told["top"]):
-        word = case.words[place]
-        if is_header_word(word) or is_address_word(word) and not is_address_right(case, place, word):
+    for place in range(judged.told["stack"], judged.told["top"]):
+        word = judged.words[place]
+        if is_header_word(word) or is_address_word(word) and not is_address_right(judged, place, word):
             return place
     return None
 
 
-def is_address_right(case, place, word):
+def is_address_right(judged, place, word):
     """Whether an address may stand at a place of the stack."""
-    area = case.area_led_to(word)
+    area = judged.area_led_to(word)
     if area == "nursery":
-        return case.told["small"] == 0 or place >= case.told["step"]
+        return judged.told["small"] == 0 or place >= judged.told["step"]
     if area == "other":
-        return place >= case.told["low"]
+        return place >= judged.told["low"]
     return area == "half"
 
 
-def no_frame(case):
+def no_frame(judged):
     """Rule 12: the frames, from the running one on to the bottom one; the first wrong one settles the place."""
-    told = case.told
+    told = judged.told
     if told["status"] == ENDED:
-        return no_value_at_end(case)
+        return no_value_at_end(judged)
     frame = JudgedFrame((told["row"], PLACES["row"]), (told["base"], PLACES["base"]), told["top"], False)
     while True:
-        wrong = wrong_in_frame(case, frame)
+        wrong = wrong_in_frame(judged, frame)
         if wrong is not None or frame.base == told["stack"] + 2:
             return wrong
         end = frame.base - 2
-        row, base = told_by(case.words[end]), told_by(case.words[end + 1])
+        row, base = told_by(judged.words[end]), told_by(judged.words[end + 1])
         frame = JudgedFrame((row, end), (base, end + 1), end, True)
 
 
-def no_value_at_end(case):
+def no_value_at_end(judged):
     """Rule 12 in status 1: nothing is left but a value."""
-    told = case.told
+    told = judged.told
     rows = [
         (PLACES["row"], told["row"] == 0), (PLACES["base"], told["base"] == 0),
         (PLACES["top"], told["top"] == told["stack"] + 1),
-        (told["stack"], not is_mark_word(case.words[told["stack"]])),
+        (told["stack"], not is_mark_word(judged.words[told["stack"]])),
     ]
     for place, is_right in rows:
         if not is_right:
@@ -68,40 +68,40 @@ class JudgedFrame:
         self.is_caller = is_caller
 
 
-def wrong_in_frame(case, frame):
+def wrong_in_frame(judged, frame):
     """The place of what is wrong first in a frame; None if nothing is."""
-    stack = case.told["stack"]
+    stack = judged.told["stack"]
     if not stack + 2 <= frame.base <= frame.end - 2:
         return frame.base_told_at
-    closure = case.words[frame.base]
-    if not is_address_word(closure) or case.kind_of(told_by(closure)) != "closure":
+    closure = judged.words[frame.base]
+    if not is_address_word(closure) or judged.kind_of(told_by(closure)) != "closure":
         return frame.base
-    if not is_row_of_frame(case, frame, body_of_closure(case, closure)):
+    if not is_row_of_frame(judged, frame, body_of_closure(judged, closure)):
         return frame.row_told_at
     for place in range(frame.base + 1, frame.end):
-        if is_mark_word(case.words[place]):
+        if is_mark_word(judged.words[place]):
             return place
     for place in (frame.base - 2, frame.base - 1):
-        word = case.words[place]
+        word = judged.words[place]
         if not is_mark_word(word) or frame.base == stack + 2 and word != word_of_mark(0):
             return place
     return None
 
 
-def body_of_closure(case, word):
+def body_of_closure(judged, word):
     """The number of the body of the closure to which an address leads."""
-    return told_by(case.words[place_through(case.words, told_by(word)) + 1])
+    return told_by(judged.words[place_through(judged.words, told_by(word)) + 1])
 
 
-def is_row_of_frame(case, frame, body):
+def is_row_of_frame(judged, frame, body):
     """Whether a frame with the closure of a body may go on at its row with the operands that it has."""
     operands = frame.end - frame.base - 2 + (1 if frame.is_caller else 0)
-    if frame.row >= len(case.row_places) or case.row_places[frame.row] != (body, operands):
+    if frame.row >= len(judged.row_places) or judged.row_places[frame.row] != (body, operands):
         return False
     # A row with an operand ahead of it is not the first one of its body.
-    return not frame.is_caller or word_of_row(case, frame.row - 1) == "call"
+    return not frame.is_caller or word_of_row(judged, frame.row - 1) == "call"
 
 
-def word_of_row(case, row):
+def word_of_row(judged, row):
     """The word of a row."""
-    return op_word(told_by(case.words[place_of_row(case.words, row)]))
+    return op_word(told_by(judged.words[place_of_row(judged.words, row)]))

@@ -13,26 +13,26 @@ LAST_STATUS = 4
 ENDED = 1
 
 
-def no_word(case):
+def no_word(judged):
     """Rule 0, of a tuple that is long enough: each element is a word."""
-    for place, word in enumerate(case.words):
+    for place, word in enumerate(judged.words):
         if read_as_word(word) is None:
             return place
     return None
 
 
-def no_register(case):
+def no_register(judged):
     """Rule 1: the registers are marks; their numbers are told from here on."""
     for place in range(ALL_REGISTERS):
-        if not is_mark_word(case.words[place]):
+        if not is_mark_word(judged.words[place]):
             return place
-    case.told = {name: number_at(case.words, name) for name in PLACES}
+    judged.told = {name: number_at(judged.words, name) for name in PLACES}
     return None
 
 
-def no_size(case):
+def no_size(judged):
     """Rule 2: where the areas lie."""
-    told = case.told
+    told = judged.told
     ends = told["first"] + 2 * told["size"]
     return first_register_wrong([
         ("bodies", told["bodies"] > 0),
@@ -41,7 +41,7 @@ def no_size(case):
         ("remembered", is_size(0, told["remembered"] - told["stack"])),
         ("nursery", is_size(1, told["nursery"] - told["remembered"])),
         ("first", is_size(2, told["first"] - told["nursery"])),
-        ("size", is_size(3, told["size"]) and len(case.words) == ends),
+        ("size", is_size(3, told["size"]) and len(judged.words) == ends),
         ("pace", is_size(4, told["pace"])),
     ])
 
@@ -59,23 +59,23 @@ def first_register_wrong(rows):
     return None
 
 
-def no_code_word(case):
+def no_code_word(judged):
     """Rule 3: the sorts of the words of bodies and rows."""
-    words, rows = case.words, place_of_row(case.words, 0)
-    for place in range(ALL_REGISTERS, case.told["stack"]):
+    words, rows = judged.words, place_of_row(judged.words, 0)
+    for place in range(ALL_REGISTERS, judged.told["stack"]):
         is_number = place >= rows and (place - rows) % 3 == 1 and words[place - 1] == word_of_mark(NUMBER_OP)
         if not (is_number_word(words[place]) if is_number else is_mark_word(words[place])):
             return place
     return None
 
 
-def no_body(case):
+def no_body(judged):
     """Rule 4: what the bodies tell."""
     ahead = -1
-    for number in range(case.told["bodies"]):
+    for number in range(judged.told["bodies"]):
         place = place_of_body(number)
-        first, kind, captured = [told_by(word) for word in case.words[place:place + 3]]
-        if not ahead < first < case.told["rows"] or number == 0 and first != 0:
+        first, kind, captured = [told_by(word) for word in judged.words[place:place + 3]]
+        if not ahead < first < judged.told["rows"] or number == 0 and first != 0:
             return place
         if kind > 1 or number == 0 and kind != 0:
             return place + 1
@@ -85,15 +85,15 @@ def no_body(case):
     return None
 
 
-def no_row(case):
+def no_row(judged):
     """Rule 5: the shape of the rows; their places are told from here on."""
-    case.row_places, broken = walked(code_in(case.words))
-    return None if broken is None else place_of_row(case.words, broken)
+    judged.row_places, broken = walked(code_in(judged.words))
+    return None if broken is None else place_of_row(judged.words, broken)
 
 
-def no_number(case):
+def no_number(judged):
     """Rule 6: the numbers of the other registers."""
-    told = case.told
+    told = judged.told
     is_ended, stack, top, half, old = told["status"] == ENDED, told["stack"], told["top"], told["half"], told["old"]
     return first_register_wrong([
         ("status", told["status"] <= LAST_STATUS),

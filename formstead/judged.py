@@ -4,7 +4,7 @@ from formstead.layout import place_through
 from formstead.wordsorts import fields_of_header, is_address_word, kind_of_header, told_by
 
 
-class Case:
+class Judged:
     """A memory that is judged; what one rule has found out serves those behind it."""
 
     def __init__(self, words):
